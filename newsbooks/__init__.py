@@ -1,0 +1,1 @@
+"""Newsbooks: books of what is held true, changed by news."""
