@@ -1,0 +1,123 @@
+"""Point 1: kinds of values; no call changes its arguments, and objects copy what they are made of."""
+
+import copy
+import unittest
+
+from newsbooks import (
+    chains, comparisons, facts, families, firsts, keeping, lots, narrowing, orders, products, ranks, ranktexts,
+    relations, sentences, stretches, tables, turning, wishes)
+
+FACTS = facts.Facts(["a", "b"], [2, 2], [(0, 1)])
+RANK = ranks.Rank([(1,), (2, 0), (3,)])
+TABLE = tables.Table.of_relation(3, [(0, 2)])
+TOLD = [[0, "<=", 2], [2, "<=", 0], [0, "<", 1]]
+TORN = [[0, "<=", 2], [2, "<", 0], [0, "<", 1]]
+ANSWERS = [[[1, 0], [1]], [[1], [1]], [[0], [0]]]
+CLASSES = [[2, 0], [1], [3]]
+OBJECTS = (facts.Facts, ranks.Rank, chains.Chains, turning.Deed, narrowing.Narrowing, tables.Table)
+
+CALLS = [
+    (lots.lot_of, [2, 0], 3), (lots.rest_of, [2, 0], 3), (lots.every, 3), (lots.plus, [2, 0], [1]),
+    (lots.common, [2, 0], [0, 2]), (lots.minus, [2, 0], [2]), (lots.inside, [2, 0], [0, 2]), (lots.meets, [2], [2]),
+    (lots.lot_before, [2, 0], [1, 0]),
+    (facts.Facts, ["a", "b"], [2, 2], [[0, 1], [0, 1]]), (FACTS.alike_classes, [1, 0]), (FACTS.hangs_on, [2, 0]),
+    (FACTS.told_by, [2, 0], [1, 0]), (FACTS.shadow, [2], [1]), (FACTS.floor, [2, 0], [0]), (FACTS.row_of, 1),
+    (sentences.lot_said, FACTS, "a=0 or b=1"), (sentences.plain, FACTS, [2, 0]),
+    (families.common_parts, [[2, 0], [0]], 3), (families.union_closed, [[2, 0], [1]], 3),
+    (families.contrary_closed, [[2, 0], [1]], 3), (families.is_union_closed, [[2, 0], [1]], 3),
+    (families.is_part_closed, [[2, 0], [1]], 3), (families.fewest_parts, [[2, 0], [1, 0]], 3, [0]),
+    (ranks.Rank, [[1], [2, 0]]), (ranks.Rank.strict, [1, 0]), (ranks.Rank.of_levels, [3, 1, 3]),
+    (ranks.Rank.two, [2, 0], 3), (RANK.best, [3, 2, 0]), (RANK.behind_best, [3, 2, 0]), (RANK.beginnings,),
+    (RANK.is_before, 1, 0), (RANK.is_alike, 2, 0), (RANK.place_of, 3), (len, RANK),
+    (comparisons.comparisons_of, TOLD, 3), (comparisons.first_broken, RANK, TOLD), (comparisons.keeps, RANK, TOLD),
+    (chains.Chains, 3, TOLD), (chains.Chains(3, TOLD).chain, 0, 1), (chains.Chains(3, TOLD).strict_chain, 2, 1),
+    (chains.Chains(3, TOLD).alike_lots,), (chains.Chains(3, TOLD).reaches, 0, 1),
+    (chains.ring_of, 3, TOLD), (chains.ring_of, 3, TORN), (chains.is_ring, 3, TORN, [1, 0]),
+    (keeping.least_rank, 3, TOLD), (keeping.before_in_all, 3, TOLD, 0, 1), (keeping.fewest_cells, 3, TOLD),
+    (keeping.most_cells, 3, TOLD), (keeping.some_keeping, 3, TOLD, 2), (keeping.is_spare, 3, TOLD, 1),
+    (keeping.same_keeping, 3, TOLD, TORN), (firsts.first_lots, 3, TOLD, [2, 0]), (firsts.count_keeping, 3, TOLD),
+    (firsts.keeping_ranks, 3, TOLD), (firsts.best_lots, 3, TOLD, [1, 0]), (firsts.in_some, 3, TOLD, [1, 0]),
+    (firsts.in_all, 3, TOLD, [2, 0]),
+    (turning.led, RANK, [3, 0]), (turning.pushed, RANK, [3, 0]), (turning.leaned, RANK, [3, 0]),
+    (turning.levelled, RANK, [3, 1]), (turning.sunk, RANK, [3, 1]), (turning.turned, RANK, "lead", [3, 1]),
+    (turning.answer_of, RANK, "ask", [3, 2]), (turning.deed_named, "lean", [3, 1], 4),
+    (products.products, RANK, RANK), (products.opposite, RANK, ranks.Rank.flat(4)), (products.two_cells, RANK),
+    (narrowing.classes_of, CLASSES, 4), (narrowing.met, CLASSES, [3, 0]), (narrowing.is_whole, CLASSES, [2, 0]),
+    (narrowing.spread, CLASSES, [2, 0]), (narrowing.coarser, CLASSES, [[3, 1], [2, 0]]),
+    (narrowing.Narrowing, CLASSES, 4), (narrowing.Narrowing(CLASSES, 4), RANK), (ranktexts.rank_text, RANK),
+    (tables.Table, 2, ANSWERS), (TABLE.answer, [2, 0]), (tables.Table.of_orders, [[1, 0], [0, 1]]),
+    (tables.Table.of_relation, 3, [[0, 2], [0, 2]]), (tables.Table.of_stretches, [0, 1], [0, 5]),
+    (wishes.first_break, TABLE, "arrow"), (wishes.kinds_of, TABLE), (relations.ahead_of, TABLE),
+    (relations.relation_behind, TABLE), (relations.is_going_on, [[0, 1], [1, 2]]),
+    (orders.fits_table, [1, 0, 2], TABLE), (orders.orders_behind, TABLE), (orders.order_for, TABLE, [2, 1], 1),
+    (orders.torn_lot, TABLE), (orders.is_torn, TABLE, [2, 1]), (stretches.stretches_behind, TABLE),
+]
+
+
+def frozen(value):
+    """The value with tuples in the place of lists."""
+    return tuple(frozen(part) for part in value) if isinstance(value, (list, tuple)) else value
+
+
+def told(value):
+    """The value with what its objects tell in the place of the objects."""
+    if isinstance(value, tuple):
+        return tuple(told(part) for part in value)
+    return (type(value).__name__, vars(value)) if isinstance(value, OBJECTS) else value
+
+
+class ValuesTest(unittest.TestCase):
+    def check_kind(self, value):
+        if not isinstance(value, OBJECTS):
+            self.assertIn(type(value), (tuple, int, str, bool, type(None)))
+        if isinstance(value, tuple):
+            for part in value:
+                self.check_kind(part)
+
+    def test_01_no_call_changes_its_arguments(self):
+        for call, *args in CALLS:
+            with self.subTest(call=call, args=args):
+                before = copy.deepcopy([part for part in args if not isinstance(part, OBJECTS)])
+                call(*args)
+                self.assertEqual([part for part in args if not isinstance(part, OBJECTS)], before)
+
+    def test_01_lists_and_tuples_give_equal_answers_of_the_right_kinds(self):
+        for call, *args in CALLS:
+            with self.subTest(call=call, args=args):
+                found = call(*args)
+                self.check_kind(found)
+                self.assertEqual(told(call(*args)), told(found))
+                self.assertEqual(told(call(*frozen(args))), told(found))
+
+    def test_01_objects_tell_tuples(self):
+        for thing in (FACTS, RANK, TABLE, chains.Chains(3, TOLD), turning.Deed([2, 0], 3),
+                      narrowing.Narrowing(CLASSES, 4), ranks.Rank.strict([1, 0])):
+            for name in ("names", "counts", "rows", "cells", "levels", "comparisons", "classes", "pairs", "lot"):
+                if hasattr(thing, name):
+                    self.check_kind(getattr(thing, name))
+
+    def test_01_later_changes_change_no_object(self):
+        for make, *args in ((facts.Facts, ["a", "b"], [2, 2], [[0, 1]]), (ranks.Rank, [[1], [2, 0]]),
+                            (chains.Chains, 3, TOLD), (turning.LeadDeed, [2, 0], 3),
+                            (narrowing.Narrowing, CLASSES, 4), (tables.Table, 2, ANSWERS)):
+            mine = copy.deepcopy(args)
+            thing = make(*mine)
+            wanted = copy.deepcopy(told(make(*args)))
+            for part in mine:
+                if isinstance(part, list):
+                    if isinstance(part[0], list):
+                        part[0].clear()
+                    part.clear()
+            self.assertEqual(told(thing), wanted)
+
+    def test_01_ranks_do_not_change(self):
+        rank = ranks.Rank([(1,), (2, 0), (3,)])
+        for lot in ((3, 0), (1,), (2, 1)):
+            for word in ("lead", "push", "lean", "level", "sink", "ask"):
+                turning.turned(rank, word, lot)
+        rank * ranks.Rank.flat(4)
+        self.assertEqual([rank.cells, rank.levels, rank.worlds], [((1,), (0, 2), (3,)), (1, 0, 1, 2), 4])
+
+
+if __name__ == "__main__":
+    unittest.main()
