@@ -4,7 +4,7 @@ from newsbooks.checks import check_world, is_row, is_within
 from newsbooks.comparisons import comparisons_of
 
 
-def reach_masks(worlds, comparisons):
+def reach_from(worlds, comparisons):
     """Return for each world the mask of the worlds to which chains lead from it."""
     masks = [1 << world for world in range(worlds)]
     for left, _, right in comparisons:
@@ -16,7 +16,7 @@ def reach_masks(worlds, comparisons):
     return masks
 
 
-def strict_masks(worlds, comparisons, reach):
+def strict_reach_from(worlds, comparisons, reach):
     """Return for each world the mask of the worlds to which strict chains lead from it."""
     masks = [0] * worlds
     for left, sign, right in comparisons:
@@ -61,8 +61,8 @@ class Chains:
     def __init__(self, worlds, comparisons):
         self.comparisons = comparisons_of(comparisons, worlds)
         self.worlds = worlds
-        self.reach_masks = tuple(reach_masks(worlds, self.comparisons))
-        self.strict_masks = tuple(strict_masks(worlds, self.comparisons, self.reach_masks))
+        self.reach_masks = tuple(reach_from(worlds, self.comparisons))
+        self.strict_masks = tuple(strict_reach_from(worlds, self.comparisons, self.reach_masks))
 
     @property
     def torn(self):

@@ -20,7 +20,7 @@ def into_masks(worlds, comparisons, signs):
     return unions_of(masks)
 
 
-class FirstTest:
+class FirstCheck:
     """Tells whether one lot is a first lot of another one, both as masks."""
 
     def __init__(self, worlds, comparisons):
@@ -37,21 +37,21 @@ def first_lots(worlds, comparisons, lot):
     """Return the first lots of the lot, in lot order."""
     told = comparisons_of(comparisons, worlds)
     asked = lot_of(lot, worlds, empty=False)
-    test = FirstTest(worlds, told)
+    check = FirstCheck(worlds, told)
     whole = mask_of(asked)
-    return tuple([part for part in books_inside(asked) if test.is_first(mask_of(part), whole)])
+    return tuple([part for part in books_inside(asked) if check.is_first(mask_of(part), whole)])
 
 
 def count_keeping(worlds, comparisons):
     """Return the number of keeping ranks."""
-    test = FirstTest(worlds, comparisons_of(comparisons, worlds))
+    check = FirstCheck(worlds, comparisons_of(comparisons, worlds))
     full = (1 << worlds) - 1
     # ways[X]: in how many ways first lots, taken away one by one from W, leave X.
     ways = [0] * full + [1]
     for whole in range(full, 0, -1):
         part = whole if ways[whole] else 0
         while part > 0:
-            if test.is_first(part, whole):
+            if check.is_first(part, whole):
                 ways[whole - part] = ways[whole - part] + ways[whole]
             part = (part - 1) & whole
     return ways[0]
@@ -59,14 +59,14 @@ def count_keeping(worlds, comparisons):
 
 def keeping_ranks(worlds, comparisons):
     """Return all keeping ranks, by their first cells in lot order, then by their second cells, and so on."""
-    test = FirstTest(worlds, comparisons_of(comparisons, worlds))
+    check = FirstCheck(worlds, comparisons_of(comparisons, worlds))
     if worlds > MOST_LISTED:
         raise TooMany(MOST_LISTED)
     full = (1 << worlds) - 1
     # rows[X]: all rows of first lots that, taken away one by one from X, leave nothing.
     rows = [[()]]
     for whole in range(1, full + 1):
-        firsts = [lot for lot in books_inside(lot_in(whole)) if test.is_first(mask_of(lot), whole)]
+        firsts = [lot for lot in books_inside(lot_in(whole)) if check.is_first(mask_of(lot), whole)]
         found = [(lot,) + row for lot in firsts for row in rows[whole - mask_of(lot)]]
         rows.append(found)
     return tuple([Rank(row) for row in rows[full]])
