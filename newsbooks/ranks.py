@@ -25,11 +25,8 @@ def cells_fault(cells):
 
 def levels_of(cells):
     """Return the tuple of the levels of all worlds in these cells."""
-    levels = [0] * sum([len(cell) for cell in cells])
-    for level, cell in enumerate(cells):
-        for world in cell:
-            levels[world] = level
-    return tuple(levels)
+    levels = {world: level for level, cell in enumerate(cells) for world in cell}
+    return tuple([levels[world] for world in range(len(levels))])
 
 
 def cells_by(numbers):

@@ -29,6 +29,7 @@ LIBRARY = {
 }
 ONCE = {"zip", "enumerate", "reversed", "range", "items", "keys", "values"}
 TAKERS = {"list", "tuple", "dict", "sorted", "sum", "any", "all", "enumerate", "zip", "min", "max"}
+CHANGING = {"append", "clear", "extend", "insert", "pop", "remove", "reverse", "setdefault", "update"}
 ABSENT = set(
     "typing typing_extensions enum Enum IntEnum StrEnum Flag IntFlag Generic Protocol ABC ABCMeta namedtuple "
     "NamedTuple TypedDict TYPE_CHECKING abstractmethod type".split()
@@ -80,6 +81,48 @@ def functions_of(tree):
 
 def classes_of(tree):
     return [node for node in tree.body if isinstance(node, ast.ClassDef)]
+
+
+def changed_in(function):
+    """The names whose lists or dicts the function changes by an item or by a method."""
+    found = set()
+    for node in ast.walk(function):
+        if isinstance(node, ast.Subscript) and isinstance(node.ctx, (ast.Store, ast.Del)):
+            found.add(ast.unparse(node.value))
+        elif isinstance(node, ast.Call) and isinstance(node.func, ast.Attribute) and node.func.attr in CHANGING:
+            found.add(ast.unparse(node.func.value))
+    return found
+
+
+def made_by_times(function):
+    """The names to which the function assigns a product: [0] * n and the like."""
+    found = set()
+    for node in ast.walk(function):
+        if isinstance(node, ast.Assign) and isinstance(node.value, ast.BinOp) and isinstance(node.value.op, ast.Mult):
+            found.update(ast.unparse(target) for target in node.targets)
+    return found
+
+
+def run_by_signs():
+    """All functions that an operator, a property, == or len of the package may reach, gone after by their names."""
+    by_name = {}
+    for tree in TREES.values():
+        for node in functions_of(tree):
+            by_name.setdefault(node.name, []).append(node)
+        for owner in classes_of(tree):
+            makers = [node for node in owner.body if isinstance(node, ast.FunctionDef) and node.name == "__init__"]
+            by_name.setdefault(owner.name, []).extend(makers)
+    signs = DOUBLES - {"__init__", "__call__"}
+    waiting = [node for tree in TREES.values() for node in functions_of(tree)
+               if node.name in signs or any(getattr(part, "id", "") == "property" for part in node.decorator_list)]
+    reached = []
+    while waiting:
+        function = waiting.pop()
+        if function not in reached:
+            reached.append(function)
+            for node in ast.walk(function):
+                waiting.extend(by_name.get(called(node), []))
+    return reached
 
 
 def own_methods():
@@ -271,15 +314,20 @@ class LanguageTest(unittest.TestCase):
         for name in generators:
             self.assertEqual(named.count(name), 1)
 
+    def test_what_signs_and_properties_run_changes_no_product(self):
+        reached = run_by_signs()
+        self.assertIn("levels_of", [function.name for function in reached])
+        for function in reached:
+            self.assertFalse(made_by_times(function) & changed_in(function), function.name)
+
     def test_what_a_loop_goes_over_is_not_changed_in_it(self):
-        changing = {"append", "clear", "extend", "insert", "pop", "remove", "reverse", "setdefault", "update"}
         for tree in TREES.values():
             for loop in ast.walk(tree):
                 if not isinstance(loop, ast.For):
                     continue
                 over = {ast.unparse(node) for node in ast.walk(loop.iter) if isinstance(node, (ast.Name, ast.Attribute))}
                 for node in ast.walk(loop):
-                    if isinstance(node, ast.Call) and called(node) in changing:
+                    if isinstance(node, ast.Call) and called(node) in CHANGING:
                         self.assertNotIn(ast.unparse(node.func.value), over)
                     if isinstance(node, ast.Subscript) and isinstance(node.ctx, (ast.Store, ast.Del)):
                         self.assertNotIn(ast.unparse(node.value), over)
