@@ -1,6 +1,6 @@
 """Chains of comparisons, and the rings to which they close."""
 
-from newsbooks.checks import check_world, is_row, is_within
+from newsbooks.checks import check_world, is_integer, is_row, is_within
 from newsbooks.comparisons import comparisons_of
 
 
@@ -114,13 +114,30 @@ def ring_of(worlds, comparisons):
 def is_ring(worlds, comparisons, ring):
     """Return whether ring is a list or tuple of places that are a ring."""
     told = comparisons_of(comparisons, worlds)
-    if not is_row(ring) or len(ring) == 0:
+    if not is_row(ring) or not all([is_within(place, 0, len(told) - 1) for place in ring]):
         return False
-    if not all([is_within(place, 0, len(told) - 1) for place in ring]):
-        return False
-    steps = [told[place] for place in ring]
+    return closes([told[place] for place in ring])
+
+
+def closes(steps):
+    """Return whether these comparisons, in this order, are a ring."""
     lefts = [left for left, _, _ in steps]
     rights = [right for _, _, right in steps]
     if rights != lefts[1:] + lefts[:1] or len(set(lefts)) < len(lefts):
         return False
     return any([sign == "<" for _, sign, _ in steps])
+
+
+def is_step(step):
+    """Return whether this has the form of a step: a source, a world, a sign and a world."""
+    if not is_row(step) or len(step) != 4:
+        return False
+    source, left, sign, right = step
+    return is_integer(source) and is_integer(left) and isinstance(sign, str) and is_integer(right)
+
+
+def are_closing(steps, known):
+    """Return whether steps is a list or tuple of known steps whose comparisons, in this order, are a ring."""
+    if not is_row(steps) or not all([is_step(step) and tuple(step) in known for step in steps]):
+        return False
+    return closes([(left, sign, right) for _, left, sign, right in steps])

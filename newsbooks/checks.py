@@ -1,6 +1,6 @@
 """Checks of arguments that many files share."""
 
-from newsbooks.errors import BadNumber, OtherWorlds
+from newsbooks.errors import BadNumber, BadOrder, OtherWorlds
 
 MOST_WORLDS = 12
 
@@ -44,3 +44,12 @@ def wrong_entry(entries, count):
         if not is_within(entry, 0, count - 1) or entry in entries[:place]:
             return place
     return None
+
+
+def check_order(order, worlds):
+    """Refuse all but a strict order of these worlds."""
+    if not is_row(order) or len(order) != worlds:
+        raise BadOrder(-1)
+    place = wrong_entry(order, worlds)
+    if place is not None:
+        raise BadOrder(place)

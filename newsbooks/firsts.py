@@ -59,9 +59,15 @@ def count_keeping(worlds, comparisons):
 
 def keeping_ranks(worlds, comparisons):
     """Return all keeping ranks, by their first cells in lot order, then by their second cells, and so on."""
-    check = FirstCheck(worlds, comparisons_of(comparisons, worlds))
+    told = comparisons_of(comparisons, worlds)
     if worlds > MOST_LISTED:
         raise TooMany(MOST_LISTED)
+    return tuple([Rank(row) for row in rows_of_cells(worlds, told)])
+
+
+def rows_of_cells(worlds, comparisons):
+    """Return the list of the cells of all keeping ranks, in the order of keeping_ranks."""
+    check = FirstCheck(worlds, comparisons)
     full = (1 << worlds) - 1
     # rows[X]: all rows of first lots that, taken away one by one from X, leave nothing.
     rows = [[()]]
@@ -69,7 +75,7 @@ def keeping_ranks(worlds, comparisons):
         firsts = [lot for lot in books_inside(lot_in(whole)) if check.is_first(mask_of(lot), whole)]
         found = [(lot,) + row for lot in firsts for row in rows[whole - mask_of(lot)]]
         rows.append(found)
-    return tuple([Rank(row) for row in rows[full]])
+    return rows[full]
 
 
 def reached_from(masks, lot):

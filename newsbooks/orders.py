@@ -1,7 +1,7 @@
 """Strict orders that fit a table, and the lots that are torn where none does."""
 
-from newsbooks.checks import is_integer, is_row, wrong_entry
-from newsbooks.errors import BadNumber, BadOrder
+from newsbooks.checks import check_order, is_integer
+from newsbooks.errors import BadNumber
 from newsbooks.lots import lot_of
 from newsbooks.masks import lot_in, mask_of
 from newsbooks.tables import Table, answer_masks
@@ -25,11 +25,7 @@ def lost_masks(table):
 
 def fits_table(order, table):
     """Return whether the first world of each lot in the strict order is in its answer."""
-    if not is_row(order) or len(order) != table.worlds:
-        raise BadOrder(-1)
-    place = wrong_entry(order, table.worlds)
-    if place is not None:
-        raise BadOrder(place)
+    check_order(order, table.worlds)
     lost = lost_masks(table)
     return not any([lost[mask_of(order[first:])] >> world & 1 for first, world in enumerate(order)])
 

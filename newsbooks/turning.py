@@ -63,10 +63,18 @@ def unturned(rank, lot):
 
 TURNS = {"lead": led, "push": pushed, "lean": leaned, "level": levelled, "sink": sunk, "ask": unturned}
 
+PUT_WORDS = ("lead", "push", "lean")
+
 
 def check_word(word):
     """Refuse all but the six words of deeds."""
     if not isinstance(word, str) or word not in TURNS:
+        raise BadWord(word)
+
+
+def check_put_word(word):
+    """Refuse all but the words of the deeds that put a lot in."""
+    if not isinstance(word, str) or word not in PUT_WORDS:
         raise BadWord(word)
 
 

@@ -102,3 +102,34 @@ def classes_in(worlds):
         for place in range(len(rows)):
             found.append(rows[:place] + [rows[place] + (worlds - 1,)] + rows[place + 1:])
     return found
+
+
+def all_cases(worlds):
+    """All cases (lot, answer) of these worlds."""
+    return [(lot, answer) for lot in books_of(worlds) for answer in sublots(lot)[1:]]
+
+
+def giving(worlds, cases):
+    """The levels of all ranks that give the cases."""
+    return [levels for levels in level_rows(worlds) if all(best_of(levels, lot) == answer for lot, answer in cases)]
+
+
+def case_rows(worlds, most):
+    """All rows of at most so many cases of these worlds."""
+    return [row for many in range(most + 1) for row in itertools.product(all_cases(worlds), repeat=many)]
+
+
+def some_case_rows(worlds, most, many, seed):
+    """Some rows of cases, always the same ones: of ranks, and with one answer or all of them changed."""
+    chance = random.Random(seed)
+    rows = level_rows(worlds)
+    found = []
+    for _ in range(many):
+        levels = chance.choice(rows)
+        lots = [chance.choice(books_of(worlds)) for _ in range(chance.randint(1, most))]
+        cases = [(lot, best_of(levels, lot)) for lot in lots]
+        changed = chance.choice([0, 0, 1, len(cases)])
+        for place in chance.sample(range(len(cases)), changed):
+            cases[place] = (lots[place], chance.choice(sublots(lots[place])[1:]))
+        found.append(tuple(cases))
+    return found

@@ -131,11 +131,70 @@ orders torn_lot(table)
 orders is_torn(table, lot)
 orders greatest_inside(table)
 stretches stretches_behind(table)
+cases Told(worlds, cases)
+cases Told.given_by(self, rank)
+cases Told.with_case(self, lot, answer)
+cases told_of(table, family)
+untold rank_told(told)
+untold told_ring(told)
+untold is_told_ring(told, ring)
+untold can_answer(told, lot)
+untold forced(told, lot)
+untold told_some(told, lot)
+untold told_all(told, lot)
+untold count_told(told)
+untold arrow_break(told)
+untold union_told(told)
+untold pairs_told(told)
+fewasks asks_for(rank)
+fewasks unseen_pair(family, worlds)
+fewasks tells_apart(family, worlds)
+fewasks long_ring(worlds)
+manyorders fits_told(order, told)
+manyorders torn_told(told)
+manyorders narrowed_told(told, place, world)
+manyorders orders_told(told)
+manyorders why_no_orders(told)
+givings Giving(worlds, answers)
+givings Giving.kept(self, lot)
+givings Giving.level_of(cls, rank)
+givings Giving.sink_of(cls, rank)
+bridges put_from(giving)
+bridges give_from(table)
+givewishes give_break(giving, wish)
+givewishes has_give(giving, wish)
+givewishes keeps_tied(table)
+givewishes half_arrow(table)
+sinks rank_of_sinks(giving)
+sinks rank_of_levels(giving)
+sinks kept_chain(giving)
+sinks count_between(worlds, held)
+sinks is_between(giving, table)
+turnwishes turn_break(rank, lot, next_rank, wish)
+turnwishes has_shape(rank, lot, next_rank, wish)
+turnwishes begins_best(rank, lot, next_rank)
+turnwishes is_next(rank, lot, next_rank)
+nexts next_ranks(rank, lot)
+nexts count_next(rank, lot)
+nexts next_held(rank, lot, asked)
+nexts settled(lot, asked)
+nexts turns_alike(rank, lot, one, other)
+rowtables RowTable(table, second)
+rowtables RowTable.held_behind(self, lot, other)
+rowtables RowTable.of_rank(cls, rank, word)
+rowtables row_break(rowtable, word)
+rowtables row_rank(rowtable, word)
 """
 
-SIGNS = {"Rank": ["__mul__", "__eq__", "__len__", "__getitem__", "__iter__"], "Table": ["__eq__", "__len__", "__add__"]}
-PROPERTIES = {"Facts": ["full", "many"], "Rank": ["held"], "Chains": ["torn"], "Table": ["held"]}
-GENERATORS = ["all_lots", "all_ranks", "all_tables"]
+SIGNS = {
+    "Rank": ["__mul__", "__eq__", "__len__", "__getitem__", "__iter__"], "Table": ["__eq__", "__len__", "__add__"],
+    "Told": ["__eq__", "__len__", "__iter__"], "Giving": ["__eq__", "__len__"],
+}
+PROPERTIES = {
+    "Facts": ["full", "many"], "Rank": ["held"], "Chains": ["torn"], "Table": ["held"], "Giving": ["held"],
+}
+TUPLES = {"wishes": ["WISHES", "KINDS"], "givewishes": ["GIVE_WISHES"], "turnwishes": ["TURN_WISHES"]}
+GENERATORS = ["all_lots", "all_ranks", "all_tables", "next_ranks"]
 
 
 def entries():
@@ -163,6 +222,13 @@ class InterfaceTest(unittest.TestCase):
                 self.assertIn(sign, vars(vars(module)[name]))
             for word in PROPERTIES.get(name, []):
                 self.assertIsInstance(vars(vars(module)[name])[word], property)
+
+    def test_tuples_of_words(self):
+        for module, names in TUPLES.items():
+            for name in names:
+                found = vars(importlib.import_module("newsbooks." + module))[name]
+                self.assertIsInstance(found, tuple)
+                self.assertEqual({type(word) for word in found}, {str})
 
     def test_generators(self):
         for module, name, _ in entries():

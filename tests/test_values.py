@@ -4,8 +4,9 @@ import copy
 import unittest
 
 from newsbooks import (
-    chains, comparisons, facts, families, firsts, keeping, lots, narrowing, orders, products, ranks, ranktexts,
-    relations, sentences, stretches, tables, turning, wishes)
+    bridges, cases, chains, comparisons, facts, families, fewasks, firsts, givewishes, givings, keeping, lots,
+    manyorders, narrowing, nexts, orders, products, ranks, ranktexts, relations, rowtables, sentences, sinks,
+    stretches, tables, turning, turnwishes, untold, wishes)
 
 FACTS = facts.Facts(["a", "b"], [2, 2], [(0, 1)])
 RANK = ranks.Rank([(1,), (2, 0), (3,)])
@@ -14,7 +15,15 @@ TOLD = [[0, "<=", 2], [2, "<=", 0], [0, "<", 1]]
 TORN = [[0, "<=", 2], [2, "<", 0], [0, "<", 1]]
 ANSWERS = [[[1, 0], [1]], [[1], [1]], [[0], [0]]]
 CLASSES = [[2, 0], [1], [3]]
-OBJECTS = (facts.Facts, ranks.Rank, chains.Chains, turning.Deed, narrowing.Narrowing, tables.Table)
+CASES = [[[2, 0], [0]], [[1, 0], [1, 0]]]
+GIVEN = [[[1], [1, 0]], [[], [1]], [[0], [1, 0]]]
+SECOND = [[[0], [0], [0]]]
+MANY = cases.Told(3, CASES)
+TORN_CASES = cases.Told(2, [[[1, 0], [0]], [[1, 0], [1]]])
+GIVING = givings.Giving(2, GIVEN)
+ROW_TABLE = rowtables.RowTable.of_rank(ranks.Rank([[1], [2, 0]]), "push")
+OBJECTS = (facts.Facts, ranks.Rank, chains.Chains, turning.Deed, narrowing.Narrowing, tables.Table, cases.Told,
+           givings.Giving, rowtables.RowTable)
 
 CALLS = [
     (lots.lot_of, [2, 0], 3), (lots.rest_of, [2, 0], 3), (lots.every, 3), (lots.plus, [2, 0], [1]),
@@ -51,6 +60,25 @@ CALLS = [
     (relations.relation_behind, TABLE), (relations.is_going_on, [[0, 1], [1, 2]]),
     (orders.fits_table, [1, 0, 2], TABLE), (orders.orders_behind, TABLE), (orders.order_for, TABLE, [2, 1], 1),
     (orders.torn_lot, TABLE), (orders.is_torn, TABLE, [2, 1]), (stretches.stretches_behind, TABLE),
+    (cases.Told, 3, CASES), (MANY.given_by, ranks.Rank.flat(3)), (MANY.with_case, [2, 1], [1]), (len, MANY),
+    (cases.told_of, TABLE, [[2, 0], [1]]), (untold.rank_told, MANY), (untold.told_ring, TORN_CASES),
+    (untold.is_told_ring, TORN_CASES, [[0, 0, "<", 1], [1, 1, "<", 0]]), (untold.can_answer, MANY, [2, 1]),
+    (untold.forced, MANY, [2, 1]), (untold.told_some, MANY, [2, 1]), (untold.told_all, MANY, [2, 1]),
+    (untold.count_told, MANY), (untold.arrow_break, TORN_CASES), (untold.union_told, MANY), (untold.pairs_told, MANY),
+    (fewasks.asks_for, RANK), (fewasks.unseen_pair, [[1, 0], [2]], 3), (fewasks.tells_apart, [[1, 0]], 2),
+    (fewasks.long_ring, 4), (manyorders.fits_told, [1, 0, 2], MANY), (manyorders.torn_told, TORN_CASES),
+    (manyorders.narrowed_told, MANY, 1, 1), (manyorders.orders_told, MANY), (manyorders.why_no_orders, TORN_CASES),
+    (givings.Giving, 2, GIVEN), (GIVING.kept, [1]), (givings.Giving.level_of, RANK), (givings.Giving.sink_of, RANK),
+    (len, GIVING), (bridges.put_from, GIVING), (bridges.give_from, TABLE), (givewishes.give_break, GIVING, "hold"),
+    (givewishes.has_give, GIVING, "rise"), (givewishes.keeps_tied, TABLE), (givewishes.half_arrow, TABLE),
+    (sinks.rank_of_sinks, GIVING), (sinks.rank_of_levels, GIVING), (sinks.kept_chain, GIVING),
+    (sinks.count_between, 3, [2, 0]), (sinks.is_between, givings.Giving.level_of(ranks.Rank.flat(3)), TABLE),
+    (turnwishes.turn_break, RANK, [3, 1], ranks.Rank.flat(4), "gains"), (turnwishes.begins_best, RANK, [3, 1], RANK),
+    (turnwishes.has_shape, RANK, [3, 1], ranks.Rank.flat(4), "stays"), (turnwishes.is_next, RANK, [3, 1], RANK),
+    (nexts.count_next, RANK, [3, 1]), (nexts.next_held, RANK, [3, 1], [3, 0]), (nexts.settled, [3, 1], [3, 0]),
+    (nexts.turns_alike, RANK, [3, 1], "lead", "push"), (rowtables.RowTable, tables.Table(1, [[[0], [0]]]), SECOND),
+    (ROW_TABLE.held_behind, [2, 0], [1, 0]), (rowtables.RowTable.of_rank, ranks.Rank([[1], [2, 0]]), "lean"),
+    (rowtables.row_break, ROW_TABLE, "lead"), (rowtables.row_rank, ROW_TABLE, "push"),
 ]
 
 
@@ -90,16 +118,19 @@ class ValuesTest(unittest.TestCase):
                 self.assertEqual(told(call(*frozen(args))), told(found))
 
     def test_01_objects_tell_tuples(self):
-        for thing in (FACTS, RANK, TABLE, chains.Chains(3, TOLD), turning.Deed([2, 0], 3),
+        for thing in (FACTS, RANK, TABLE, chains.Chains(3, TOLD), turning.Deed([2, 0], 3), MANY, GIVING, ROW_TABLE,
                       narrowing.Narrowing(CLASSES, 4), ranks.Rank.strict([1, 0])):
-            for name in ("names", "counts", "rows", "cells", "levels", "comparisons", "classes", "pairs", "lot"):
+            for name in ("names", "counts", "rows", "cells", "levels", "comparisons", "classes", "pairs", "lot",
+                         "cases", "sources", "table"):
                 if hasattr(thing, name):
                     self.check_kind(getattr(thing, name))
 
     def test_01_later_changes_change_no_object(self):
         for make, *args in ((facts.Facts, ["a", "b"], [2, 2], [[0, 1]]), (ranks.Rank, [[1], [2, 0]]),
                             (chains.Chains, 3, TOLD), (turning.LeadDeed, [2, 0], 3),
-                            (narrowing.Narrowing, CLASSES, 4), (tables.Table, 2, ANSWERS)):
+                            (narrowing.Narrowing, CLASSES, 4), (tables.Table, 2, ANSWERS), (cases.Told, 3, CASES),
+                            (givings.Giving, 2, GIVEN),
+                            (rowtables.RowTable, tables.Table(1, [[[0], [0]]]), SECOND)):
             mine = copy.deepcopy(args)
             thing = make(*mine)
             wanted = copy.deepcopy(told(make(*args)))
