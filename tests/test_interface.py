@@ -184,14 +184,68 @@ rowtables RowTable.held_behind(self, lot, other)
 rowtables RowTable.of_rank(cls, rank, word)
 rowtables row_break(rowtable, word)
 rowtables row_rank(rowtable, word)
+folds news_of(news, worlds)
+folds led_row(rank, news)
+folds pushed_row(rank, news)
+folds leaned_row(rank, news)
+folds fold(news, worlds, asked)
+folds row_answer(rank, news, asked)
+folds taken_news(news, worlds)
+folds is_fold(news, worlds, asked, lot, taken)
+acts act_of(news, worlds)
+acts same_act(one, other, worlds)
+acts is_idle(news, worlds, place)
+acts idle_shape(news, worlds, place)
+acts without_doubles(news, worlds)
+acts may_change(one, other, word, worlds)
+journals Journal(worlds, held, entries=())
+journals Journal.begin(cls, worlds, held)
+journals Journal.with_entry(self, word, lot, answer)
+journals Journal.standing(self)
+journals Journal.is_over(self, family)
+journals journal_of(rank, deeds)
+journals gives(rank, journal)
+forms Form(worlds, blocks)
+forms Form.at_start(cls, worlds)
+forms Form.block_of(self, lot)
+forms Form.means(self, rank)
+forms Form.next_form(self, word, lot, answer, held)
+readings Reading(journal)
+readings may_have_given(journal)
+readings count_given(journal)
+readings why_none(journal)
+readings is_why(journal, why)
+coming can_come(journal, word, lot)
+coming must_come(journal, word, lot)
+coming come_some(journal, lot)
+coming come_all(journal, lot)
+coming why_not(journal, word, lot, answer)
+parting parted_by(one, other, family)
+parting parting_deeds(one, other, family)
+parting joined_ring(*journals)
+parting joined_rank(*journals)
+parting narrowed_journal(journal, classes)
+kinds kinds_that_fit(worlds, held, entries)
+kinds first_parting(worlds, held, entries, row, other)
+leadrows steps_down(rank, goal)
+leadrows fewest_leads(rank, goal)
+leadrows lead_row(rank, goal)
+leadrows halving(number)
+leadrows fewest_act(rank)
+leadrows act_row(rank)
+pushrows rising_end(rank, goal)
+pushrows fewest_pushes(rank, goal)
+pushrows push_row(rank, goal)
 """
 
 SIGNS = {
     "Rank": ["__mul__", "__eq__", "__len__", "__getitem__", "__iter__"], "Table": ["__eq__", "__len__", "__add__"],
     "Told": ["__eq__", "__len__", "__iter__"], "Giving": ["__eq__", "__len__"],
+    "Journal": ["__eq__", "__len__", "__iter__"], "Form": ["__eq__"],
 }
 PROPERTIES = {
     "Facts": ["full", "many"], "Rank": ["held"], "Chains": ["torn"], "Table": ["held"], "Giving": ["held"],
+    "Journal": ["now"], "Reading": ["form"],
 }
 TUPLES = {"wishes": ["WISHES", "KINDS"], "givewishes": ["GIVE_WISHES"], "turnwishes": ["TURN_WISHES"]}
 GENERATORS = ["all_lots", "all_ranks", "all_tables", "next_ranks"]

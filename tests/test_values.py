@@ -4,9 +4,10 @@ import copy
 import unittest
 
 from newsbooks import (
-    bridges, cases, chains, comparisons, facts, families, fewasks, firsts, givewishes, givings, keeping, lots,
-    manyorders, narrowing, nexts, orders, products, ranks, ranktexts, relations, rowtables, sentences, sinks,
-    stretches, tables, turning, turnwishes, untold, wishes)
+    acts, bridges, cases, chains, coming, comparisons, facts, families, fewasks, firsts, folds, forms, givewishes,
+    givings, journals, keeping, kinds, leadrows, lots, manyorders, narrowing, nexts, orders, parting, products,
+    pushrows, ranks, ranktexts, readings, relations, rowtables, sentences, sinks, stretches, tables, turning,
+    turnwishes, untold, wishes)
 
 FACTS = facts.Facts(["a", "b"], [2, 2], [(0, 1)])
 RANK = ranks.Rank([(1,), (2, 0), (3,)])
@@ -22,8 +23,16 @@ MANY = cases.Told(3, CASES)
 TORN_CASES = cases.Told(2, [[[1, 0], [0]], [[1, 0], [1]]])
 GIVING = givings.Giving(2, GIVEN)
 ROW_TABLE = rowtables.RowTable.of_rank(ranks.Rank([[1], [2, 0]]), "push")
+NEWS = [[1, 0], [2], [2, 1]]
+ENTRIES = [["lean", [1, 0], [0]], ["ask", [2, 1], [1]], ["back", [], [0]]]
+DEEDS = [["lead", [3, 1]], ["back", []], ["sink", [1]]]
+BLOCKS = [[[0, 2], True, [1, 0]], [[1], False, [0]]]
+JOURNAL = journals.Journal(3, [0], ENTRIES)
+TORN_JOURNAL = journals.Journal(2, [0], [["ask", [1, 0], [1]]])
+FORM = forms.Form(3, BLOCKS)
+PUTS = [["put", [1, 0], [0]], ["ask", [2, 1], [2]]]
 OBJECTS = (facts.Facts, ranks.Rank, chains.Chains, turning.Deed, narrowing.Narrowing, tables.Table, cases.Told,
-           givings.Giving, rowtables.RowTable)
+           givings.Giving, rowtables.RowTable, journals.Journal, forms.Form, readings.Reading)
 
 CALLS = [
     (lots.lot_of, [2, 0], 3), (lots.rest_of, [2, 0], 3), (lots.every, 3), (lots.plus, [2, 0], [1]),
@@ -79,6 +88,28 @@ CALLS = [
     (nexts.turns_alike, RANK, [3, 1], "lead", "push"), (rowtables.RowTable, tables.Table(1, [[[0], [0]]]), SECOND),
     (ROW_TABLE.held_behind, [2, 0], [1, 0]), (rowtables.RowTable.of_rank, ranks.Rank([[1], [2, 0]]), "lean"),
     (rowtables.row_break, ROW_TABLE, "lead"), (rowtables.row_rank, ROW_TABLE, "push"),
+    (folds.news_of, NEWS, 3), (folds.led_row, RANK, NEWS), (folds.pushed_row, RANK, NEWS),
+    (folds.leaned_row, RANK, NEWS), (folds.fold, NEWS, 3, [2, 0]), (folds.row_answer, RANK, NEWS, [2, 0]),
+    (folds.taken_news, NEWS, 3), (folds.is_fold, NEWS, 3, [2, 0], [2], [1, 2]),
+    (acts.act_of, NEWS, 3), (acts.same_act, NEWS, [[2]], 3), (acts.is_idle, NEWS, 3, 1), (acts.idle_shape, NEWS, 3, 1),
+    (acts.without_doubles, NEWS, 3), (acts.may_change, [1, 0], [1], "lead", 2),
+    (journals.Journal, 3, [2, 0], ENTRIES), (journals.Journal.begin, 3, [2, 0]), (len, JOURNAL),
+    (JOURNAL.with_entry, "level", [1, 0], [2, 0]), (JOURNAL.standing,), (JOURNAL.is_over, [[1, 0], [2, 1]]),
+    (journals.journal_of, RANK, DEEDS), (journals.gives, ranks.Rank([[0], [1, 2]]), JOURNAL),
+    (forms.Form, 3, BLOCKS), (forms.Form.at_start, 3), (FORM.block_of, [2, 1]), (FORM.means, ranks.Rank.flat(3)),
+    (FORM.next_form, "lean", [2, 1], [2], [2]), (readings.Reading, JOURNAL), (readings.may_have_given, JOURNAL),
+    (readings.count_given, JOURNAL), (readings.why_none, TORN_JOURNAL),
+    (readings.is_why, TORN_JOURNAL, ["ring", [[-1, 0, "<", 1], [0, 1, "<", 0]]]),
+    (coming.can_come, JOURNAL, "sink", [1, 0]), (coming.must_come, JOURNAL, "lead", [2, 0]),
+    (coming.come_some, JOURNAL, [2, 1]), (coming.come_all, JOURNAL, [2, 1]),
+    (coming.why_not, JOURNAL, "ask", [2, 1], [2]), (parting.parted_by, RANK, ranks.Rank.flat(4), [[2, 0], [1]]),
+    (parting.parting_deeds, ranks.Rank([[0], [1, 2]]), ranks.Rank([[0], [1], [2]]), [[2, 1], [2]]),
+    (parting.joined_ring, JOURNAL, JOURNAL), (parting.joined_ring, TORN_JOURNAL), (parting.joined_rank, JOURNAL),
+    (parting.narrowed_journal, JOURNAL, [[2], [1], [0]]), (kinds.kinds_that_fit, 3, [0], PUTS),
+    (kinds.first_parting, 3, [0], PUTS, ["lead"], ["push"]), (leadrows.steps_down, ranks.Rank.flat(4), RANK),
+    (leadrows.fewest_leads, RANK, RANK), (leadrows.lead_row, ranks.Rank.flat(4), RANK), (leadrows.halving, 5),
+    (leadrows.fewest_act, RANK), (leadrows.act_row, RANK), (pushrows.rising_end, RANK, RANK),
+    (pushrows.fewest_pushes, ranks.Rank.flat(4), RANK), (pushrows.push_row, ranks.Rank.flat(4), RANK),
 ]
 
 
@@ -119,9 +150,9 @@ class ValuesTest(unittest.TestCase):
 
     def test_01_objects_tell_tuples(self):
         for thing in (FACTS, RANK, TABLE, chains.Chains(3, TOLD), turning.Deed([2, 0], 3), MANY, GIVING, ROW_TABLE,
-                      narrowing.Narrowing(CLASSES, 4), ranks.Rank.strict([1, 0])):
+                      JOURNAL, FORM, readings.Reading(JOURNAL), narrowing.Narrowing(CLASSES, 4), ranks.Rank.strict([1, 0])):
             for name in ("names", "counts", "rows", "cells", "levels", "comparisons", "classes", "pairs", "lot",
-                         "cases", "sources", "table"):
+                         "cases", "sources", "table", "beginning", "entries", "now", "blocks", "forms", "fallen"):
                 if hasattr(thing, name):
                     self.check_kind(getattr(thing, name))
 
@@ -129,7 +160,8 @@ class ValuesTest(unittest.TestCase):
         for make, *args in ((facts.Facts, ["a", "b"], [2, 2], [[0, 1]]), (ranks.Rank, [[1], [2, 0]]),
                             (chains.Chains, 3, TOLD), (turning.LeadDeed, [2, 0], 3),
                             (narrowing.Narrowing, CLASSES, 4), (tables.Table, 2, ANSWERS), (cases.Told, 3, CASES),
-                            (givings.Giving, 2, GIVEN),
+                            (givings.Giving, 2, GIVEN), (journals.Journal, 3, [2, 0], ENTRIES),
+                            (forms.Form, 3, BLOCKS),
                             (rowtables.RowTable, tables.Table(1, [[[0], [0]]]), SECOND)):
             mine = copy.deepcopy(args)
             thing = make(*mine)
