@@ -1,6 +1,6 @@
 """Acts of rows of news: what leading by a row does to every rank."""
 
-from newsbooks.checks import check_worlds, is_within
+from newsbooks.checks import is_within
 from newsbooks.errors import BadNumber
 from newsbooks.folds import led_row, news_of
 from newsbooks.lots import every, inside, lot_of, rest_of
@@ -66,7 +66,6 @@ def without_doubles(news, worlds):
 
 def may_change(one, other, word, worlds):
     """Return whether two pieces, as a row of two, may change places on every rank."""
-    check_worlds(worlds)
     first = lot_of(one, worlds, empty=False)
     second = lot_of(other, worlds, empty=False)
     check_put_word(word)

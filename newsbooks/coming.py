@@ -33,7 +33,7 @@ def possible_bests(form, lot):
 
 
 def possible_sinks(form, lot):
-    """Return lots that have all those that pass the check of "sink" where all that is held is given up."""
+    """Return lots among which are all those that pass the check of "sink" where all that is held is given up."""
     rest = rest_of(lot, form.worlds)
     number = form.block_of(rest)
     worlds, live, codes = form.blocks[number]
@@ -45,9 +45,7 @@ def possible_sinks(form, lot):
 
 
 def possible_answers(form, now, word, lot):
-    """Return lots that have all those that pass the check of one more entry, which is no "back"."""
-    if is_vain(word, lot, now):
-        return [now]
+    """Return lots among which are all those that pass the check of one more entry, a deed that is not vain."""
     if word == "sink":
         return possible_sinks(form, lot)
     if word == "level":

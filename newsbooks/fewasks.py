@@ -13,7 +13,7 @@ def asks_for(rank):
     """Return the few asks of the rank: cases that no other rank gives."""
     cases = []
     rest = ()
-    for cell in reversed(rank.cells):
+    for cell in rank.cells[::-1]:
         rest = rest + cell
         if len(rest) > 1:
             cases.append((rest, cell))

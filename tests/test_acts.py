@@ -128,6 +128,7 @@ class ActsTest(unittest.TestCase):
     def test_101_refused_arguments(self):
         for lot in NO_ROWS + ((), []):
             refused(self, BadLot(-1), may_change, lot, "no lot", "no word", 3)
+            refused(self, BadLot(-1), may_change, lot, (0,), "lead", 3)
             refused(self, BadLot(-1), may_change, (0,), lot, "no word", 3)
         for entry in NO_INTEGERS + (3, -1, 2):
             refused(self, BadLot(1), may_change, [2, entry, 0], "no lot", "no word", 3)

@@ -89,6 +89,7 @@ class CasesTest(unittest.TestCase):
         for lot in NO_ROWS + ((), []):
             refused(self, BadLot(-1), told.with_case, lot, "no answer")
             refused(self, BadLot(-1), told.with_case, (0, 1, 2), lot)
+        refused(self, BadLot(-1), told.with_case, (), (0, 3))
         for entry in NO_INTEGERS + (3, -1, 2):
             refused(self, BadLot(1), told.with_case, [2, entry], "no answer")
             refused(self, BadLot(1), told.with_case, [2, 0], [2, entry])

@@ -144,8 +144,10 @@ class NextFormTest(unittest.TestCase):
             bounds = ((0, 1, 2, 3), [3, 2, 1, 0]) if word in ("level", "sink") else ((), [])
             for lot in NO_ROWS + bounds:
                 refused(self, BadLot(-1), FORM.next_form, word, lot, "no answer", "no lot")
+                refused(self, BadLot(-1), FORM.next_form, word, lot, (0, 4), (0,))
             for lot in NO_ROWS + ((), []):
                 refused(self, BadLot(-1), FORM.next_form, word, (0, 1), lot, "no lot")
+                refused(self, BadLot(-1), FORM.next_form, word, (0, 1), lot, (0, 4))
                 refused(self, BadLot(-1), FORM.next_form, word, (0, 1), (0,), lot)
             for entry in NO_INTEGERS + (4, -1, 2):
                 refused(self, BadLot(1), FORM.next_form, word, [2, entry], "no answer", "no lot")

@@ -209,6 +209,9 @@ class LanguageTest(unittest.TestCase):
                         self.assertFalse(node.value.startswith("__"))
                 if isinstance(node, ast.Compare) and isinstance(node.ops[0], (ast.Is, ast.IsNot)):
                     self.assertIn(node.comparators[0].value, (None, True, False))
+                if called(node) == "reversed":
+                    # The package has a class with [..]: reversed takes only what surely is a builtin sequence.
+                    self.assertIn(called(node.args[0]), ("list", "tuple", "sorted", "range"))
                 if called(node) in ("any", "all", "sum", "min", "max", "sorted"):
                     # The package has classes with == and len: these calls take lists.
                     self.assertFalse([part for part in node.args if isinstance(part, ast.GeneratorExp)])

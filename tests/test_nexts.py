@@ -138,6 +138,7 @@ class HeldTest(unittest.TestCase):
         rank = Rank.flat(3)
         for lot in NO_ROWS + ((), []):
             refused(self, BadLot(-1), next_held, rank, lot, "no lot")
+            refused(self, BadLot(-1), next_held, rank, lot, (0, 3))
             refused(self, BadLot(-1), next_held, rank, (0,), lot)
         for entry in NO_INTEGERS + (3, -1, 2):
             refused(self, BadLot(1), next_held, rank, [2, entry, 0], "no lot")

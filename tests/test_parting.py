@@ -63,16 +63,38 @@ class PartingTest(unittest.TestCase):
         self.assertNotEqual(answers(one, deeds), answers(other, deeds))
         self.assertEqual(deeds == (), one.held != other.held)
 
+    def check_fewer(self, one, other, family):
+        """No row of fewer deeds than there are places parts the ranks; where there are none, no row of two."""
+        rests = [tuple(x for x in range(one.worlds) if x not in lot) for lot in family]
+        deeds = [(word, lot) for word in ("lead", "push", "lean", "ask") for lot in family]
+        deeds = deeds + [("level", rest) for rest in rests] + [("back", ())]
+        places = least_places(one, other, family)
+        for many in range(3 if places is None else len(places)):
+            for row in itertools.product(deeds, repeat=many):
+                self.assertEqual(answers(one, row), answers(other, row))
+
     def test_117_no_fewer_deeds_part_them(self):
         for one, other in itertools.combinations(ranks_of(3)[::2], 2):
-            for family in FAMILIES[2:6]:
-                deeds = [(word, lot) for word in ("lead", "push", "lean", "ask") for lot in set(family)]
-                deeds = deeds + [("level", tuple(x for x in range(3) if x not in lot)) for lot in set(family)]
-                deeds = deeds + [("back", ())]
+            for family in ([(1, 2)], [(0, 1), (0, 2)], [(0, 1), (0, 2), (1, 2)]):
+                self.check_fewer(one, other, family)
+        for first in itertools.permutations(range(4), 2):
+            rest = tuple(x for x in range(4) if x not in first)
+            one, other = Rank.strict(first + rest), Rank.strict(first + rest[::-1])
+            self.check_fewer(one, other, [(0, 1, 2), (1, 2, 3)])
+
+    def test_117_four_worlds(self):
+        seen = set()
+        families = [[(0, 1, 2), (3, 2, 1)], [(0, 1, 2), (0, 1, 3), (1, 2, 3)], [(3, 2), (0, 1, 2), (1, 2, 3), (0, 1)]]
+        ranks = ranks_of(4)
+        for one, other in list(itertools.combinations(ranks, 2))[::13]:
+            for family in families:
                 places = least_places(one, other, family)
-                for many in range(3 if places is None else len(places)):
-                    for row in itertools.product(deeds, repeat=many):
-                        self.assertEqual(answers(one, row), answers(other, row))
+                self.assertEqual(parted_by(one, other, family), places)
+                self.check_deeds(one, other, family, places)
+                seen.add(places and len(places))
+        self.assertEqual(seen, {None, (), 1, 2})
+        one, other = Rank.strict((0, 3, 1, 2)), Rank.strict((0, 3, 2, 1))
+        self.assertEqual(parting_deeds(one, other, families[0]), (("lead", (0, 1, 2)), ("ask", (1, 2, 3))))
 
     def test_117_all_ranks_parted(self):
         for worlds in (2, 3):
@@ -104,6 +126,8 @@ class PartingTest(unittest.TestCase):
         last = twelve[:8] + (9, 8, 11, 10)
         self.assertIsNone(parted_by(Rank.strict(twelve), Rank.strict(last), eight[:7]))
         self.assertEqual(parted_by(Rank.strict(twelve), Rank.strict(last), eight), tuple(range(8)))
+        words = [word for word, _ in parting_deeds(Rank.strict(twelve), Rank.strict(last), eight)]
+        self.assertEqual(words, ["lead"] * 7 + ["ask"])
 
 
 def some_rows(many):

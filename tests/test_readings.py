@@ -14,7 +14,7 @@ from newsbooks.journals import Journal, gives
 from newsbooks.ranks import Rank
 from newsbooks.readings import Reading, count_given, is_why, may_have_given, why_none
 from stores import (
-    WORDS, all_deeds, deeds_in, given_by, journals_with_codes, short_journals, some_journals, store_behind)
+    WORDS, all_deeds, all_entries, deeds_in, given_by, journals_with_codes, short_journals, some_journals, store_behind)
 
 JOURNALS = short_journals()[::3] + some_journals(2, 8, 60, 108) + some_journals(3, 7, 400, 108)
 JOURNALS = JOURNALS + some_journals(3, 8, 100, 109, ("lean", "lean", "sink", "ask", "back"))
@@ -27,6 +27,19 @@ def closes(steps):
     ends = [right for _, _, right in steps]
     strict = any(sign == "<" for _, sign, _ in steps)
     return strict and ends[-1:] + ends[:-1] == begins and len(set(begins)) == len(begins)
+
+
+def journals_at_unlike_codes(worlds):
+    """Journals, the shortest ones found, that lead to forms in which a block has unlike codes."""
+    found = {}
+    journals = journals_with_codes(worlds, 200, 108) + some_journals(worlds, 5, 150, 111, ("lean", "lead", "push"))
+    for journal in journals:
+        for many, form in enumerate(Reading(journal).forms):
+            part = Journal(worlds, journal.beginning, journal.entries[:many])
+            key = (form.blocks, part.now)
+            if any(len(set(codes)) > 1 for _, _, codes in form.blocks):
+                found[key] = min([part, found.get(key, part)], key=len)
+    return list(found.values())
 
 
 class ReadingTest(unittest.TestCase):
@@ -45,6 +58,21 @@ class ReadingTest(unittest.TestCase):
             fallen += place is not None
         self.assertGreater(fallen, 100)
         self.assertGreater(len(JOURNALS) - fallen, 100)
+
+    def test_110_each_entry_at_forms_with_codes(self):
+        sinks = set()
+        three = [(journal, all_entries(3)) for journal in journals_at_unlike_codes(3)]
+        four = [(journal, all_entries(4)[k % 40::40]) for k, journal in enumerate(journals_at_unlike_codes(4))]
+        for journal, entries in three + four:
+            for entry in entries:
+                more = journal.with_entry(*entry)
+                reading = Reading(more)
+                told, forms, place, _ = plainreading.read(more)
+                self.assertEqual(reading.comparisons, tuple(row for _, row in told), more.entries)
+                self.assertEqual([reading.fallen, reading.form.blocks], [place, forms[-1]])
+                if entry[0] == "sink" and place is None and set(journal.now) <= set(entry[1]):
+                    sinks.update(step[1] for step in told if step[0] == len(journal))
+        self.assertTrue({(1, "<", 2), (2, "<=", 1), (1, "<=", 2), (2, "<", 1)} <= sinks)
 
     def test_110_the_beginning(self):
         reading = Reading(Journal(4, (3, 1)))

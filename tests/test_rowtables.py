@@ -109,6 +109,7 @@ class RowTablesTest(unittest.TestCase):
         rowtable = RowTable(TABLE, SECOND)
         for lot in NO_ROWS + ((), []):
             refused(self, BadLot(-1), rowtable.held_behind, lot, "no lot")
+            refused(self, BadLot(-1), rowtable.held_behind, lot, ONE)
             refused(self, BadLot(-1), rowtable.held_behind, ONE, lot)
         for entry in NO_INTEGERS + (2, -1, 0):
             refused(self, BadLot(1), rowtable.held_behind, [0, entry], "no lot")
