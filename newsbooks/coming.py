@@ -10,11 +10,16 @@ from newsbooks.tellings import code_in, entry_comparisons, entry_holds, first_pa
 MOST_COMING = 10
 
 
-def more_lot(journal, word, lot):
-    """Return the lot of one more deed as an ascending tuple, and refuse what is no deed or one too many."""
+def asked_lot(word, lot, worlds):
+    """Return the lot of a deed that is asked about as an ascending tuple, and refuse what is no deed."""
     if not isinstance(word, str) or word not in DEED_WORDS:
         raise BadWord(word)
-    asked = deed_lot(word, lot, journal.worlds)
+    return deed_lot(word, lot, worlds)
+
+
+def more_lot(journal, word, lot):
+    """Return the lot of one more deed as an ascending tuple, and refuse what is no deed or one too many."""
+    asked = asked_lot(word, lot, journal.worlds)
     if len(journal.entries) >= MOST_ENTRIES:
         raise TooMany(MOST_ENTRIES)
     return asked
@@ -71,6 +76,7 @@ def closes_no_ring(chains, comparisons, hub):
         if chains.reach_masks[world] & (whole if sign == "<" else strict) or chains.strict_masks[world] & whole:
             return False
     return True
+
 
 def coming_answers(journal, word, lot):
     """Return the answers that can come to a deed with an ascending lot, in lot order."""

@@ -24,13 +24,13 @@ class FirstCheck:
     """Tells whether one lot is a first lot of another one, both as masks."""
 
     def __init__(self, worlds, comparisons):
-        self.leads = into_masks(worlds, comparisons, ("<", "<="))
+        self.into = into_masks(worlds, comparisons, ("<", "<="))
         stricts = into_masks(worlds, comparisons, ("<",))
         self.sound = [mask & stricts[mask] == 0 for mask in range(len(stricts))]
 
     def is_first(self, part, whole):
         """Return whether part, inside whole and not empty, is a first lot of whole."""
-        return self.sound[part] and self.leads[part] & whole & ~part == 0
+        return self.sound[part] and self.into[part] & whole & ~part == 0
 
 
 def first_lots(worlds, comparisons, lot):

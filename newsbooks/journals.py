@@ -38,6 +38,12 @@ def is_vain(word, lot, held):
     return word in GIVE_WORDS and not inside(held, lot)
 
 
+def lots_needed(deeds, worlds):
+    """Return the list of the lots that a family must have for a journal with these deeds to be over it."""
+    puts = [lot for word, lot in deeds if word not in GIVE_WORDS and word != "back"]
+    return puts + [rest_of(lot, worlds) for word, lot in deeds if word in GIVE_WORDS]
+
+
 def check_length(entries):
     """Refuse all but a list or tuple of at most as many entries as a journal has."""
     if not is_row(entries):
@@ -58,14 +64,19 @@ def entries_of(entries, worlds, words=DEED_WORDS):
     return tuple([(word, tuple(sorted(lot)), tuple(sorted(answer))) for word, lot, answer in entries])
 
 
+def is_deed_pair(entry, worlds):
+    """Return whether this is a pair of a word and a lot that its deed may have."""
+    if not is_row(entry) or len(entry) != 2:
+        return False
+    word, lot = entry
+    return is_deed(word, lot, worlds, DEED_WORDS)
+
+
 def deeds_of(deeds, worlds):
     """Return the deeds as a list of pairs of a word and a lot."""
     check_length(deeds)
     for place, entry in enumerate(deeds):
-        if not is_row(entry) or len(entry) != 2:
-            raise BadDeed(place)
-        word, lot = entry
-        if not is_deed(word, lot, worlds, DEED_WORDS):
+        if not is_deed_pair(entry, worlds):
             raise BadDeed(place)
     return [(word, tuple(sorted(lot))) for word, lot in deeds]
 
@@ -124,9 +135,8 @@ class Journal:
     def is_over(self, family):
         """Return whether each lot put in or asked, and the rest of each lot given up, is one of the family."""
         lots = family_of(family, self.worlds)
-        puts = [lot for word, lot, _ in self.entries if word not in GIVE_WORDS and word != "back"]
-        rests = [rest_of(lot, self.worlds) for word, lot, _ in self.entries if word in GIVE_WORDS]
-        return all([lot in lots for lot in puts + rests])
+        deeds = [(word, lot) for word, lot, _ in self.entries]
+        return all([lot in lots for lot in lots_needed(deeds, self.worlds)])
 
     def __eq__(self, other):
         if not isinstance(other, Journal):

@@ -16,6 +16,18 @@ def is_book(lot, worlds):
     return lot_fault(lot, worlds) is None and len(lot) > 0
 
 
+def parting_fault(parts, worlds):
+    """Return the place that an error names for these parts of W; None if they are lots, none empty, that part W."""
+    if not is_row(parts):
+        return -1
+    seen = []
+    for place, lot in enumerate(parts):
+        if not is_book(lot, worlds) or meets(lot, seen):
+            return place
+        seen = seen + list(lot)
+    return len(parts) if len(seen) < worlds else None
+
+
 def lot_of(lot, worlds, *, empty=True):
     """Return the lot as an ascending tuple."""
     check_worlds(worlds)

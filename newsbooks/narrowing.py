@@ -1,23 +1,17 @@
 """Classes of worlds, and ranks narrowed to them."""
 
-from newsbooks.checks import check_same_worlds, check_worlds, is_row
+from newsbooks.checks import check_same_worlds, check_worlds
 from newsbooks.errors import BadClasses
-from newsbooks.lots import inside, is_book, meets
+from newsbooks.lots import inside, meets, parting_fault
 from newsbooks.ranks import Rank
 
 
 def classes_of(classes, worlds):
     """Return the classes as a tuple of lots, in the order handed in."""
     check_worlds(worlds)
-    if not is_row(classes):
-        raise BadClasses(-1)
-    seen = []
-    for place, lot in enumerate(classes):
-        if not is_book(lot, worlds) or meets(lot, seen):
-            raise BadClasses(place)
-        seen = seen + list(lot)
-    if len(seen) < worlds:
-        raise BadClasses(len(classes))
+    place = parting_fault(classes, worlds)
+    if place is not None:
+        raise BadClasses(place)
     return tuple([tuple(sorted(lot)) for lot in classes])
 
 

@@ -6,6 +6,8 @@ from newsbooks.lots import common, in_lot_order, inside, lot_of, meets, minus, p
 from newsbooks.ranks import Rank
 from newsbooks.turning import check_put_word, turned
 from newsbooks.turnwishes import MOST_WISHED
+
+
 def comparisons_of_order(rank, ones, others):
     """Return the comparisons that keep how the rank orders each of ones and each of others."""
     levels = rank.levels

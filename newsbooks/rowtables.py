@@ -1,35 +1,11 @@
 """Row tables: what is held behind one piece of news and then another."""
 
-from newsbooks.checks import is_row
 from newsbooks.errors import BadCase, TooMany
-from newsbooks.lots import books_inside, common, every, inside, is_book, lot_of, meets
+from newsbooks.lots import books_inside, common, every, lot_of, meets
 from newsbooks.relations import rank_behind
 from newsbooks.tables import MOST_LISTED, Table
+from newsbooks.triples import answers_by_lots, is_answered, triple_fault
 from newsbooks.turning import check_put_word, turned
-
-
-def is_second(entry, worlds, taken):
-    """Return whether the entry has two lots that were not taken together and an answer inside the second one."""
-    if not is_row(entry) or len(entry) != 3 or not all([is_book(lot, worlds) for lot in entry]):
-        return False
-    lot, other, answer = entry
-    return inside(answer, other) and (tuple(sorted(lot)), tuple(sorted(other))) not in taken
-
-
-def seconds_by_lots(worlds, second):
-    """Return the answers as a dict of pairs of lots."""
-    if not is_row(second):
-        raise BadCase(-1)
-    found = {}
-    for place, entry in enumerate(second):
-        if not is_second(entry, worlds, found):
-            raise BadCase(place)
-        lot, other, answer = entry
-        found[(tuple(sorted(lot)), tuple(sorted(other)))] = tuple(sorted(answer))
-    many = (1 << worlds) - 1
-    if len(found) < many * many:
-        raise BadCase(len(second))
-    return found
 
 
 def check_few(thing):
@@ -43,9 +19,12 @@ class RowTable:
 
     def __init__(self, table, second):
         check_few(table)
+        place = triple_fault(second, table.worlds, is_answered)
+        if place is not None:
+            raise BadCase(place)
         self.table = table
         self.worlds = table.worlds
-        self.by_lots = seconds_by_lots(table.worlds, second)
+        self.by_lots = answers_by_lots(second)
 
     @classmethod
     def of_rank(cls, rank, word):

@@ -74,18 +74,18 @@ def arrow_break(told):
     return None
 
 
-def told_lots(told):
+def lots_told(told):
     """Return the list of the told lots."""
     return [lot for lot, _ in told.cases]
 
 
 def union_told(told):
     """Return whether the union of each two told lots is told."""
-    lots = told_lots(told)
+    lots = lots_told(told)
     return all([plus(one, other) in lots for one in lots for other in lots])
 
 
 def pairs_told(told):
     """Return whether all lots of two and of three worlds are told."""
-    lots = told_lots(told)
+    lots = lots_told(told)
     return all([lot in lots for lot in lots_in_order(told.worlds) if len(lot) in (2, 3)])

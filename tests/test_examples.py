@@ -23,7 +23,7 @@ def raised_by(line, names):
 class ExamplesTest(unittest.TestCase):
     def test_examples(self):
         blocks = examples()
-        self.assertEqual(len(blocks), 25)
+        self.assertEqual(len(blocks), 40)
         for lines in blocks:
             names = {}
             for place, line in enumerate(lines):

@@ -112,7 +112,7 @@ def run_by_signs():
         for owner in classes_of(tree):
             makers = [node for node in owner.body if isinstance(node, ast.FunctionDef) and node.name == "__init__"]
             by_name.setdefault(owner.name, []).extend(makers)
-    signs = DOUBLES - {"__init__", "__call__"}
+    signs = DOUBLES - {"__init__", "__call__", "__enter__", "__exit__"}
     waiting = [node for tree in TREES.values() for node in functions_of(tree)
                if node.name in signs or any(getattr(part, "id", "") == "property" for part in node.decorator_list)]
     reached = []
@@ -248,9 +248,9 @@ class LanguageTest(unittest.TestCase):
                     if isinstance(node, ast.ClassDef):
                         self.assertEqual(node.decorator_list, [])
                     if isinstance(node, ast.FunctionDef):
-                        names = [part.id for part in node.decorator_list]
-                        within = ("property", "classmethod", "staticmethod") if isinstance(owner, ast.ClassDef) else ()
-                        self.assertTrue(set(names) <= set(within))
+                        names = [ast.unparse(part) for part in node.decorator_list]
+                        within = ("property", "classmethod", "staticmethod", node.name + ".setter")
+                        self.assertTrue(set(names) <= set(within if isinstance(owner, ast.ClassDef) else ()))
                         if node.name.startswith("__"):
                             self.assertIn(node.name, DOUBLES)
                             self.assertIsInstance(owner, ast.ClassDef)
