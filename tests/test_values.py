@@ -4,10 +4,11 @@ import copy
 import unittest
 
 from newsbooks import (
-    acts, bridges, cases, chains, coming, comparisons, facts, families, fewasks, firsts, folds, forms, givewishes,
-    givings, journals, keeping, kinds, leadrows, lots, manyorders, narrowing, nexts, orders, parting, products,
-    pushrows, ranks, ranktexts, readings, relations, rowtables, sentences, sinks, stretches, tables, turning,
-    turnwishes, untold, wishes)
+    acts, bases, basetables, beside, bridges, cases, chains, clashes, coming, comparisons, desks, desktexts, distances,
+    explaining, facts, families, fewasks, firsts, folds, forms, givewishes, givings, groups, groupwishes, journals,
+    keeping, kinds, leadrows, lots, manyorders, moving, narrowing, nearest, nexts, orderings, orders, pairrules,
+    pairtables, parting, peeling, products, pushrows, ranks, ranktexts, reach, readings, relations, rests, rowtables,
+    sentences, sinks, splitting, stretches, sums, tables, turning, turnwishes, untold, untouched, wishes)
 
 FACTS = facts.Facts(["a", "b"], [2, 2], [(0, 1)])
 RANK = ranks.Rank([(1,), (2, 0), (3,)])
@@ -31,8 +32,35 @@ JOURNAL = journals.Journal(3, [0], ENTRIES)
 TORN_JOURNAL = journals.Journal(2, [0], [["ask", [1, 0], [1]]])
 FORM = forms.Form(3, BLOCKS)
 PUTS = [["put", [1, 0], [0]], ["ask", [2, 1], [2]]]
+FULL = facts.Facts(["a", "b"], [2, 2])
+FAMILY = [[1, 0], [3, 1], [1, 0]]
+CHANGES = [[[0], [0], [0]], [[0], [1], [1]], [[0], [1, 0], [0]], [[1], [0], [0]], [[1], [1], [1]], [[1], [1, 0], [1]],
+           [[1, 0], [0], [0]], [[1, 0], [1], [1]], [[1, 0], [1, 0], [1, 0]]]
+PAIR_TABLE = pairtables.PairTable(2, CHANGES)
+MOVES = [[[0], [], [0]], [[0], [0], [1, 0]], [[0], [1], [0]], [[1], [], [1]], [[1], [0], [1]], [[1], [1], [1, 0]],
+         [[1, 0], [], [1, 0]], [[1, 0], [0], [1, 0]], [[1, 0], [1], [1, 0]]]
+TWO_TABLES = [tables.Table.of_rank(ranks.Rank.two([world], 2)) for world in (0, 1)]
+APART = [[0, 1, 2], [1, 0, 1], [2, 1, 0]]
+DISTANCE = distances.Distance(APART)
+THREE_RANKS = [ranks.Rank.two([world], 3) for world in (0, 1, 2)]
+RING_RANKS = [ranks.Rank.strict(order) for order in ([0, 1, 2], [1, 2, 0], [2, 0, 1])]
+RING = [[[0, 1], "<", [0, 2]], [[2, 0], "<", [2, 1]], [[1, 2], "<", [1, 0]]]
+RULE_PAIRS = [[[1], 1], [[0], 0], [[-1], -1]]
+RULE = pairrules.PairRule(1, RULE_PAIRS)
+BOOKS = [[2, 1], [0]]
+RANKED = [[[[2, 1], [0]], ranks.Rank.flat(3)], [[[0]], ranks.Rank([[1], [2, 0]])]]
+GROUPED = groups.GroupTable(3, RANKED)
+DIRECTED = sums.Directed([[0, 1, 2], [3, 0, 1], [2, 1, 0]])
+BASE = [[1, 0], [2, 1], [2, 0]]
+STAYING = [[[1], [1]], [[0], []], [[], [1, 0]]]
+TWO_LOTS = [[1, 0], [1]]
+BASED = basetables.BaseTable(TWO_LOTS, 2, STAYING)
+CHOOSE = [[[[0, 1]], [[1, 0]]], [[[0]], [[0], [0]]]]
+DESK = desks.desk_of(RANK, DEEDS)
 OBJECTS = (facts.Facts, ranks.Rank, chains.Chains, turning.Deed, narrowing.Narrowing, tables.Table, cases.Told,
-           givings.Giving, rowtables.RowTable, journals.Journal, forms.Form, readings.Reading)
+           givings.Giving, rowtables.RowTable, journals.Journal, forms.Form, readings.Reading, peeling.Peel,
+           pairtables.PairTable, distances.Distance, pairrules.PairRule, groups.GroupTable, sums.Directed,
+           basetables.BaseTable, desks.Desk)
 
 CALLS = [
     (lots.lot_of, [2, 0], 3), (lots.rest_of, [2, 0], 3), (lots.every, 3), (lots.plus, [2, 0], [1]),
@@ -110,6 +138,60 @@ CALLS = [
     (leadrows.fewest_leads, RANK, RANK), (leadrows.lead_row, ranks.Rank.flat(4), RANK), (leadrows.halving, 5),
     (leadrows.fewest_act, RANK), (leadrows.act_row, RANK), (pushrows.rising_end, RANK, RANK),
     (pushrows.fewest_pushes, ranks.Rank.flat(4), RANK), (pushrows.push_row, ranks.Rank.flat(4), RANK),
+    (peeling.Peel, ranks.Rank.flat(4), RANK, FAMILY), (peeling.Peel(ranks.Rank.flat(4), RANK, [[1], [2, 1, 0]]).news,),
+    (peeling.Peel(RANK, RANK, FAMILY).leads,), (peeling.peel_paper, ranks.Rank.flat(4), RANK, FAMILY),
+    (peeling.is_peel_paper, ranks.Rank.flat(2), ranks.Rank([[0], [1]]), [], [[[1, 0]], [1, 0], []]),
+    (peeling.leads_any_way, ranks.Rank.flat(4), RANK, [[2, 1, 0], [1]], 3), (reach.can_be_held, RANK, FAMILY),
+    (reach.news_for, RANK, FAMILY, [0]), (reach.fewest_levels, RANK, ranks.Rank.flat(4)),
+    (reach.level_row, RANK, ranks.Rank.flat(4)), (reach.one_sink, RANK, ranks.Rank.flat(4)),
+    (reach.flat_by_sink, RANK), (reach.everywhere, 5), (reach.strict_by_one, 5), (splitting.share, FULL, [3, 1], [1]),
+    (splitting.lot_of_shares, FULL, [[1], [0]], [[[1], [0]], [[1]]]), (splitting.splits_on, FULL, [3, 1], [1]),
+    (splitting.finest_parting, FULL, [3, 0]), (splitting.parts_of, FULL, [3, 1]),
+    (splitting.is_parting_of, FULL, [3, 1], [[1], [0]]), (untouched.other_share, FULL, RANK, [1, 0]),
+    (untouched.touched_by, FULL, RANK, [1]), (untouched.has_slices, FULL, RANK, [1]),
+    (untouched.keeps_share, FULL, RANK, [1], [3, 1]), (beside.narrowed_to, FULL, RANK, [1]),
+    (beside.beside, FULL, RANK, [1]), (beside.beside_break, FULL, RANK, [1]),
+    (beside.two_stores, FULL, RANK, [1], [[3, 1], [1, 0]]), (beside.run_about, FULL, RANK, [1], [["lead", [3, 1]]]),
+    (pairtables.PairTable, 2, CHANGES), (PAIR_TABLE.changed, [1, 0], [1, 0]), (PAIR_TABLE.row_for, [1, 0]),
+    (pairtables.PairTable.of_tables, TWO_TABLES[:1] * 3), (pairtables.pair_break, PAIR_TABLE, "both"),
+    (pairtables.pair_break, distances.put_by(DISTANCE), "mono"), (moving.moving_of, TWO_TABLES),
+    (moving.tables_behind, PAIR_TABLE), (moving.book_break, distances.move_by(DISTANCE), "single"),
+    (moving.give_moves, PAIR_TABLE), (moving.move_back, 2, MOVES), (clashes.clash_cases, 1),
+    (clashes.clash_break, distances.put_by(DISTANCE), 2), (distances.Distance, APART), (DISTANCE.between, 0, 2),
+    (DISTANCE.nearest, [2, 0], [1]), (DISTANCE.ranks,), (distances.keeps_ways, DISTANCE),
+    (distances.put_by, DISTANCE), (distances.move_by, DISTANCE), (distances.one_distance, THREE_RANKS),
+    (distances.distance_ring, RING_RANKS), (distances.is_distance_ring, RING_RANKS, RING),
+    (nearest.put_comparisons, PAIR_TABLE), (nearest.put_ring, PAIR_TABLE), (nearest.distance_behind, PAIR_TABLE),
+    (nearest.could_be_nearest, THREE_RANKS, [1, 0], [2]), (nearest.must_be_nearest, THREE_RANKS, [1, 0], [2]),
+    (pairrules.PairRule, 1, RULE_PAIRS), (pairrules.PairRule.of_row, 2, [[1, -1], [0, 1]]), (RULE.sign_of, [-1]),
+    (pairrules.sign_at, RANK, 0, 1), (pairrules.merged, RULE, [RANK]), (pairrules.always_merges, RULE),
+    (pairrules.is_unanimous, RULE), (pairrules.row_behind, RULE), (pairrules.bad_ranks, RULE),
+    (pairrules.rules_counted, 3), (groups.group_of, BOOKS, 3), (groups.both_groups, BOOKS, [[2]]),
+    (groups.GroupTable, 3, RANKED), (GROUPED.rank_of, BOOKS), (GROUPED.best_of, BOOKS, [2, 0]),
+    (groupwishes.group_break, GROUPED, "shared"), (groupwishes.group_shape, GROUPED, "fair"),
+    (sums.Directed, [[0, 1], [2, 0]]), (DIRECTED.far, [2, 0], 1), (DIRECTED.is_even,),
+    (sums.sums_rank, DIRECTED, BOOKS), (sums.worsts_rank, DIRECTED, BOOKS), (sums.sums_table, DIRECTED, BOOKS),
+    (sums.worsts_table, DIRECTED, BOOKS), (sums.weighted, [2, 0], [1, 4], 3), (sums.times_needed, [2, 0], [1, 4]),
+    (sums.news_numbers, NEWS, 3), (bases.base_of, BASE, 3), (bases.sublist_of, BASE, 3, [2, 0]),
+    (bases.says, BASE, 3, [2, 0]), (bases.carries, BASE, 3, [2, 0], [1, 0]), (bases.all_sublists, 2),
+    (bases.whole_base, 3, [2, 0]), (rests.rests, BASE, 3, [1]), (rests.kernels, BASE, 3, [1]),
+    (rests.in_every_rest, BASE, 3, [1]), (rests.in_no_kernel, BASE, 3, [1]), (rests.is_rest, BASE, 3, [1], [2, 0]),
+    (rests.hitting, [[1, 0], [2]], 3), (rests.left_out, [2, 0], 4), (basetables.BaseTable, TWO_LOTS, 2, STAYING),
+    (basetables.BaseTable.of_choice, TWO_LOTS, 2, CHOOSE), (basetables.BaseTable.of_first, BASE, 3),
+    (basetables.BaseTable.of_all, BASE, 3), (BASED.stays_with, [1]), (basetables.base_break, BASED, "same"),
+    (basetables.choice_behind, basetables.BaseTable.of_all(BASE, 3)), (basetables.falls_behind, BASED),
+    (basetables.falls_behind, basetables.BaseTable.of_all(BASE, 3)), (basetables.is_joined, BASED),
+    (basetables.said_table, BASED), (orderings.taken_in, BASE, 3, [2, 0, 1]), (orderings.all_taken, BASE, 3),
+    (orderings.held_over_orders, ranks.Rank([[1], [2, 0]]), BASE), (orderings.base_rank, BASE, 3),
+    (orderings.greedy, BASE, 3, [2, 0]), (orderings.short_base, RANK), (desks.Desk, 3, [2, 0]),
+    (DESK.could, "ask", [3, 0]), (DESK.must, "lead", [3, 1]), (DESK.some, [3, 0]), (DESK.sure, [3, 0]),
+    (DESK.ranks_left,), (DESK.least,), (DESK.what_if, [["ask", [3, 1], [1]]], "ask", [1, 0]), (DESK.same_as, DESK),
+    (DESK.joined_with, DESK), (desks.trial_of, DESK, [["ask", [3, 1], [1]]]), (desks.remade, DESK),
+    (desks.desk_of, RANK, DEEDS), (explaining.why_not_held, DESK, "ask", [3, 1], [3]),
+    (explaining.chain_for, DESK, 1, 0), (explaining.why_sure, DESK, [3, 1]), (explaining.taken_reason, RANK, FAMILY),
+    (explaining.listing, DESK), (desktexts.journal_text, JOURNAL), (desktexts.journal_from, "worlds 2 held 0"),
+    (desktexts.table_text, TABLE), (desktexts.table_from, "worlds 1 table\n0 > 0"), (desktexts.news_text, NEWS, 3),
+    (desktexts.news_from, "0,1 ; 2", 3),
 ]
 
 
@@ -123,6 +205,10 @@ def told(value):
     if isinstance(value, tuple):
         return tuple(told(part) for part in value)
     return (type(value).__name__, vars(value)) if isinstance(value, OBJECTS) else value
+
+
+def begun_desk(family):
+    return desks.Desk(4, [3], family=family)
 
 
 class ValuesTest(unittest.TestCase):
@@ -150,9 +236,12 @@ class ValuesTest(unittest.TestCase):
 
     def test_01_objects_tell_tuples(self):
         for thing in (FACTS, RANK, TABLE, chains.Chains(3, TOLD), turning.Deed([2, 0], 3), MANY, GIVING, ROW_TABLE,
-                      JOURNAL, FORM, readings.Reading(JOURNAL), narrowing.Narrowing(CLASSES, 4), ranks.Rank.strict([1, 0])):
+                      JOURNAL, FORM, readings.Reading(JOURNAL), narrowing.Narrowing(CLASSES, 4), ranks.Rank.strict([1, 0]),
+                      peeling.Peel(RANK, RANK, FAMILY), DISTANCE, RULE, GROUPED, DIRECTED, BASED, DESK,
+                      desks.Desk(2, [0], family=[[1, 0]])):
             for name in ("names", "counts", "rows", "cells", "levels", "comparisons", "classes", "pairs", "lot",
-                         "cases", "sources", "table", "beginning", "entries", "now", "blocks", "forms", "fallen"):
+                         "cases", "sources", "table", "beginning", "entries", "now", "blocks", "forms", "fallen",
+                         "family", "taken", "pieces", "size", "groups", "base", "told_held", "journal_now"):
                 if hasattr(thing, name):
                     self.check_kind(getattr(thing, name))
 
@@ -161,7 +250,11 @@ class ValuesTest(unittest.TestCase):
                             (chains.Chains, 3, TOLD), (turning.LeadDeed, [2, 0], 3),
                             (narrowing.Narrowing, CLASSES, 4), (tables.Table, 2, ANSWERS), (cases.Told, 3, CASES),
                             (givings.Giving, 2, GIVEN), (journals.Journal, 3, [2, 0], ENTRIES),
-                            (forms.Form, 3, BLOCKS),
+                            (forms.Form, 3, BLOCKS), (peeling.Peel, RANK, RANK, FAMILY),
+                            (pairtables.PairTable, 2, CHANGES), (distances.Distance, APART),
+                            (pairrules.PairRule, 1, RULE_PAIRS), (groups.GroupTable, 3, RANKED),
+                            (sums.Directed, APART), (basetables.BaseTable, TWO_LOTS, 2, STAYING),
+                            (begun_desk, FAMILY),
                             (rowtables.RowTable, tables.Table(1, [[[0], [0]]]), SECOND)):
             mine = copy.deepcopy(args)
             thing = make(*mine)
