@@ -19,9 +19,7 @@ def narrowed_on(facts, rank, some):
 
 def narrowed_to(facts, rank, some):
     """Return the rank narrowed to the set of facts."""
-    chosen = full_facts(facts, some)
-    check_same_worlds(facts, rank)
-    return narrowed_on(facts, rank, chosen)
+    return narrowed_on(facts, rank, full_facts(facts, some))
 
 
 def part_with(parts, world):

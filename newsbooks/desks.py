@@ -17,15 +17,15 @@ def check_over(desk, deeds):
         raise BadFamily(-1)
 
 
-def lot_asked(desk, word, lot):
-    """Return the lot of a deed that the desk is asked about as an ascending tuple."""
+def lot_for(desk, word, lot):
+    """Return the lot of a deed that the desk is asked about as an ascending tuple, and refuse what it may not have."""
     asked = asked_lot(word, lot, desk.worlds)
     check_over(desk, [(word, asked)])
     return asked
 
 
 def journal_and(desk, entries):
-    """Return the journal of the desk with these entries behind its own, which are right."""
+    """Return the journal of the desk with these entries, which are right, behind its own; refuse too many."""
     return Journal(desk.worlds, desk.journal.beginning, desk.journal.entries + entries)
 
 
@@ -33,8 +33,6 @@ def journal_told(desk, word, lot, answer):
     """Return the journal of the desk with one more entry, whether or not some rank gives it."""
     entries = entries_of([(word, lot, answer)], desk.worlds)
     check_over(desk, [entry[:2] for entry in entries])
-    if len(desk.journal.entries) >= MOST_ENTRIES:
-        raise TooMany(MOST_ENTRIES)
     return journal_and(desk, entries)
 
 
@@ -75,19 +73,19 @@ class Desk:
 
     def could(self, word, lot):
         """Return all answers that can come to one more deed, in lot order."""
-        return can_come(self.journal, word, lot_asked(self, word, lot))
+        return can_come(self.journal, word, lot_for(self, word, lot))
 
     def must(self, word, lot):
         """Return the only answer that can come to one more deed, or None."""
-        return must_come(self.journal, word, lot_asked(self, word, lot))
+        return must_come(self.journal, word, lot_for(self, word, lot))
 
     def some(self, lot):
         """Return the worlds that are in some answer that can come when the lot is asked."""
-        return come_some(self.journal, lot_asked(self, "ask", lot))
+        return come_some(self.journal, lot_for(self, "ask", lot))
 
     def sure(self, lot):
         """Return the worlds that are in each answer that can come when the lot is asked."""
-        return come_all(self.journal, lot_asked(self, "ask", lot))
+        return come_all(self.journal, lot_for(self, "ask", lot))
 
     def ranks_left(self):
         """Return the number of ranks that give the journal."""
@@ -147,10 +145,7 @@ def trial_of(desk, entries):
 
 def remade(desk):
     """Return a new desk with the same family, told the entries of the desk one by one."""
-    twin = begun_as(desk)
-    for word, lot, answer in desk.journal.entries:
-        twin.tell(word, lot, answer)
-    return twin
+    return trial_of(begun_as(desk), desk.journal.entries)
 
 
 def desk_of(rank, deeds):

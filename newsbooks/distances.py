@@ -77,22 +77,17 @@ def keeps_ways(distance):
     return all([rows[x][z] <= rows[x][y] + rows[y][z] for x, z in pairs for y in worlds])
 
 
-def check_paired(distance):
-    """Refuse a distance of more worlds than pair tables have."""
-    if distance.worlds > MOST_PAIRED:
-        raise TooMany(MOST_PAIRED)
-
-
 def put_by(distance):
     """Return the pair table of the worlds of the news nearest to the book."""
-    check_paired(distance)
+    if distance.worlds > MOST_PAIRED:
+        raise TooMany(MOST_PAIRED)
     lots = books_inside(every(distance.worlds))
     return PairTable(distance.worlds, [(book, news, distance.nearest(book, news)) for book in lots for news in lots])
 
 
 def move_by(distance):
     """Return the pair table of the worlds of the news nearest to the worlds of the book, each for itself."""
-    check_paired(distance)
+    # It is there that more worlds than pair tables have are refused.
     return moving_of([Table.of_rank(rank) for rank in distance.ranks()])
 
 
@@ -168,7 +163,7 @@ def is_told_step(ranks, step):
         return False
     levels = ranks[first[0]].levels
     gap = levels[second[1]] - levels[first[1]]
-    return isinstance(sign, str) and ((sign == "<" and gap > 0) or (sign == "<=" and gap >= 0))
+    return (sign == "<" and gap > 0) or (sign == "<=" and gap >= 0)
 
 
 def is_distance_ring(ranks, ring):

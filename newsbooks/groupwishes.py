@@ -60,7 +60,7 @@ def single_break(table, wish):
 def told_pairs(table):
     """Return the list of all (E, F, E + F) that are told, by E and then by F in group order."""
     rows = [(one, other, both_groups(one, other)) for one in table.groups for other in table.groups]
-    return [(one, other, both) for one, other, both in rows if both in table.groups]
+    return [(one, other, both) for one, other, both in rows if both in table.by_group]
 
 
 def double_break(table, wish):

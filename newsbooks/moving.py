@@ -6,7 +6,7 @@ from newsbooks.givings import lots_but_all
 from newsbooks.lots import books_inside, common, every, plus, rest_of
 from newsbooks.pairtables import MOST_PAIRED, PairTable, check_tables, pair_break
 from newsbooks.triples import answers_by_lots, triple_fault
-from newsbooks.wishes import WISHES, check_known, first_break
+from newsbooks.wishes import first_break
 
 
 def stays_at(table, world):
@@ -41,7 +41,6 @@ def tables_behind(table):
 
 def book_break(table, book_wish):
     """Return the first book whose row breaks the wish, and the lots at which it does, or None."""
-    check_known(book_wish, WISHES)
     for book in books_inside(every(table.worlds)):
         found = first_break(table.row_for(book), book_wish)
         if found is not None:

@@ -11,17 +11,22 @@ def gaps_to(table, world, book):
     return [pair_of(world, near) for near in table.changed((world,), book)]
 
 
+def comparisons_at(table, book, news):
+    """Return the list of the comparisons that the pair table makes for the book and the news."""
+    answer = table.changed(book, news)
+    gaps = {world: gaps_to(table, world, book) for world in news}
+    pairs = [(one, other) for one in answer for other in news]
+    return [(left, "<=" if other in answer else "<", right)
+            for one, other in pairs for left in gaps[one] for right in gaps[other]]
+
+
 def put_comparisons(table):
     """Return the comparisons of the pair table, ascending, each once."""
-    found = {entry: True for entry in apart_comparisons(table.worlds)}
-    for (book, news), answer in table.by_lots.items():
-        gaps = {world: gaps_to(table, world, book) for world in news}
-        for one in answer:
-            for other in news:
-                sign = "<=" if other in answer else "<"
-                for entry in [(left, sign, right) for left in gaps[one] for right in gaps[other]]:
-                    found[entry] = True
-    return tuple(sorted([(left, sign, right) for left, sign, right in found if sign == "<" or left != right]))
+    found = apart_comparisons(table.worlds)
+    for book, news in table.by_lots:
+        found.extend(comparisons_at(table, book, news))
+    kept = {(left, sign, right): True for left, sign, right in found if sign == "<" or left != right}
+    return tuple(sorted(list(kept)))
 
 
 def put_ring(table):

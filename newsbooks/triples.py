@@ -6,7 +6,7 @@ from newsbooks.lots import inside, lot_fault
 
 def is_answered(lot, other, answer, worlds):
     """Return whether none of the lots is empty and the answer is inside the other lot."""
-    return len(lot) > 0 and len(other) > 0 and len(answer) > 0 and inside(answer, other)
+    return len(lot) > 0 and len(answer) > 0 and inside(answer, other)
 
 
 def is_triple(entry, worlds):

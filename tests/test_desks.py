@@ -11,7 +11,7 @@ from newsbooks.errors import BadDeed, BadFamily, BadLot, BadNumber, BadWord, Not
 from newsbooks.fewasks import asks_for
 from newsbooks.journals import Journal, journal_of
 from newsbooks.narrowing import Narrowing, is_whole, met
-from newsbooks.parting import joined_ring, narrowed_journal
+from newsbooks.parting import joined_rank, joined_ring, narrowed_journal
 from newsbooks.ranks import Rank
 from newsbooks.readings import may_have_given, why_none
 from stores import (
@@ -347,6 +347,19 @@ class JoinedTest(unittest.TestCase):
             seen[able] += 1
         self.assertGreater(min(seen.values()), 20)
         refused(self, OtherWorlds(2), Desk(3, (0,)).joined_with, Desk(2, (0,)))
+
+    def test_119_several_desks_and_products(self):
+        """One rank gives several journals exactly if a desk of their joined rank can be told each of them."""
+        threes = [journal for journal in JOURNALS if journal.worlds == 3 and journal.beginning == (0,)]
+        for one, other in itertools.product(threes[::3], threes[1::3]):
+            rank = joined_rank(one, other)
+            both = [mine for mine in given_by(one) if mine in given_by(other)]
+            self.assertIs(rank is not None, bool(both))
+            for first, second in itertools.product(both, repeat=2):
+                self.assertIn(first * second, both)
+            if rank is not None:
+                for journal in (one, other):
+                    self.assertEqual(desk_of(rank, deeds_in(journal)).journal_now, journal)
 
     def test_200_asks_alone(self):
         asks = [Journal(3, (0,), row) for row in itertools.product(

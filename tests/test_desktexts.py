@@ -150,7 +150,8 @@ class TableTextsTest(CheckedTest):
 
     def test_202_wrong_tables(self):
         for text in NO_TEXTS + ("", "worlds", "worlds 2", "worlds 2 table ", "worlds 0 table\n", "worlds 7 table\n0 > 0",
-                                "worlds 02 table\n", "worlds 2 held 0", " worlds 1 table\n0 > 0", "worlds 1 Table\n0 > 0"):
+                                "worlds 02 table\n", "worlds 2 held 0", " worlds 1 table\n0 > 0", "worlds 1 Table\n0 > 0",
+                                "world 1 table\n0 > 0"):
             self.assertIsNone(self.fails_at(table_from, text, 0))
         start = "worlds 2 table\n0 > 0\n"
         for line in ("", "1", "1 >", "1 > ", "1 > -", "1 > 0", "1 > 0,1", "0 > 0", "0,1 > 0", "01 > 1", "1 > 01", "1 < 1", "1 > 1 ",

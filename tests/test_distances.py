@@ -181,11 +181,13 @@ class OneDistanceTest(unittest.TestCase):
     def test_158_all_rings_of_three_worlds(self):
         steps = [((x, y), sign, (x, z)) for x, y, z in itertools.product(range(3), repeat=3) for sign in ("<", "<=")
                  if x not in (y, z)]
+        pairs = list(itertools.permutations(range(3), 2))
+        wild = [(first, sign, last) for first in pairs for sign in ("<", "<=") for last in pairs]
         found = {True: 0, False: 0}
         for ranks in ROWS[2::4]:
             told = told_steps(ranks)
-            for many in (0, 1, 2, 3):
-                for ring in itertools.product(steps, repeat=many):
+            for kinds, many in ((wild, 0), (wild, 1), (wild, 2), (steps, 3)):
+                for ring in itertools.product(kinds, repeat=many):
                     wanted = set(ring) <= set(told) and is_plain_ring(compared(ring))
                     found[wanted] += 1
                     self.assertIs(is_distance_ring(ranks, ring), wanted)

@@ -141,6 +141,14 @@ class WhySureTest(unittest.TestCase):
         self.assertEqual(why_sure(desk, (1, 3)), ((3, ((0, 1, "<=", 2), (1, 2, "<", 3)), ()),))
         self.assertEqual(why_sure(desk, (1, 2)), ((2, ((0, 1, "<=", 2),), ((0, 2, "<=", 1),)),))
 
+    def test_115_a_strict_chain_where_a_shorter_one_is_not(self):
+        desk = Desk(4, (0,))
+        for entry in (("lean", (0, 1, 3), (0,)), ("ask", (1, 2), (1,)), ("back", (), (0,)), ("ask", (1, 3), (1,)),
+                      ("ask", (2, 3), (2, 3))):
+            desk.tell(*entry)
+        self.assertEqual(chain_for(desk, 1, 2), ((1, 1, "<=", 2),))
+        self.assertEqual(why_sure(desk, (1, 2)), ((2, ((3, 1, "<", 3), (4, 3, "<=", 2)), ()),))
+
     def test_115_errors_as_must(self):
         desk = Desk(3, (0,), family=[(0, 1)])
         for lot, place in (((), -1), (None, -1), ((3,), 0), ((0, 0), 1)):

@@ -132,6 +132,10 @@ class GroupWishesTest(unittest.TestCase):
         self.assertEqual(group_break(table, "agreed"), (((0,),), ((0,),), (0, 1)))
         self.assertEqual(group_break(table, "shared"), (((0,), (0,)), (), (0, 1, 2)))
         self.assertIsNone(group_break(table, "fair"))
+        table = GroupTable(3, [([(0,)], Rank.flat(3)), ([(0,), (0,)], one)])
+        self.assertEqual(group_break(table, "together"), (((0,),), ((0,),), (0, 1)))
+        self.assertIsNone(group_break(table, "agreed"))
+        self.assertEqual([group_shape(table, wish) for wish in ("together", "agreed")], [False, True])
         table = GroupTable(3, [([(0,), (1,)], one), ([(0,), (1,), (2,)], one)])
         self.assertEqual([group_break(table, "fair"), group_break(table, "shared")], [(((0,), (1,)), (), (0, 1)), None])
 

@@ -209,10 +209,10 @@ class PaperTest(unittest.TestCase):
         for value in NO_ROWS + ((), (0,), ((0, 1),), ((2,), (0, 1), ()), ((2,), (0,)), ((2,), (0, 1, 2)), ((0, 1), 2),
                                 ((2,), (0, 3), (1,)), ((2,), (False, True)), ((2.0,), (0, 1)), (("2",), (0, 1))):
             wrong.append((value, pair, told))
-        for value in NO_ROWS + ((), (0,), (0, 1, 1), (0, 2), (0, 0), (False, True), (0, 3), (-1, 0), ("0", "1"), None):
+        for value in NO_ROWS + ((), (0,), (0, 1, 1), (0, 2), (0, 0), (False, True), (False, 1), (0, True), (0, 3), (-1, 0), ("0", "1"), None):
             wrong.append((pieces, value, told))
         for value in NO_ROWS + ((), told + (None,), told[:1], ((1, 0), None), ((0, 1), (1, 0)), (None, (0, 1)),
-                                (None, None), (None, (1,)), (None, (1, 0, 0)), (None, (True, False)), (None, "10"),
+                                (None, None), (None, (1,)), (None, (1, 0, 0)), (None, (True, False)), (None, (1, False)), (None, (True, 0)), (None, "10"),
                                 (None, (1, 2)), (None, 0), (None, ()), (False, (1, 0))):
             wrong.append((pieces, pair, value))
         for paper in wrong + list(NO_ROWS):

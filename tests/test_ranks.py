@@ -73,6 +73,7 @@ class RanksTest(unittest.TestCase):
         big = 10 ** 40
         self.assertEqual(Rank.of_levels([5, -big, big, 5]).cells, ((1,), (0, 3), (2,)))
         self.assertEqual(Rank.of_levels((7,)).cells, ((0,),))
+        self.assertEqual(Rank.of_levels([-x for x in range(12)]).cells[:2], ((11,), (10,)))
         for numbers in NO_ROWS + ((), [], [0] * 13, [0, True], [0, "1"], [None], [0, 1.0], [[0]]):
             refused(self, BadNumber("numbers"), Rank.of_levels, numbers)
         for worlds in (1, 2, 3, 4):

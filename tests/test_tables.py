@@ -120,6 +120,7 @@ class TablesTest(unittest.TestCase):
                 far = Table.of_stretches([big * x - big for x in starts], tuple(big * x - big for x in ends))
                 self.assertEqual(far, table)
         self.assertEqual(Table.of_stretches((-5,), [-5]).pairs, (((0,), (0,)),))
+        self.assertEqual(Table.of_stretches((0, 1, 2, 0, 1, 2), [0, 1, 2, 2, 2, 2]).held, (0, 3))
 
     def test_47_refused_stretches(self):
         for starts in NO_ROWS + ((), [], [0] * 7, [0, True], [0, "1"], [0, 1.0], [None]):
