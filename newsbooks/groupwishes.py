@@ -67,7 +67,7 @@ def double_break(table, wish):
     """Return the least break of a wish about two groups and both together, or None."""
     fails = DOUBLE_FAILS[wish]
     lots = books_inside(every(table.worlds))
-    bests = {group: [table.best_of(group, lot) for lot in lots] for group in table.groups}
+    bests = {group: [table.best_of(group, asked) for asked in lots] for group in table.groups}
     for one, other, both in told_pairs(table):
         for place, lot in enumerate(lots):
             if fails(bests[one][place], bests[other][place], bests[both][place]):
@@ -96,13 +96,17 @@ def shape_fair(table, group):
     return stands_to(rank, rank.best(one)[0], rank.best(other)[0]) == 0
 
 
+# Here first, second and both tell how a world stands to another one, as stands_to does: by the ranks of two groups
+# and by that of both together.
+
+
 def shape_together(first, second, both):
-    """Return whether a world that stands so to another one by each of two groups is not behind it by both."""
+    """Return whether a world that is not behind by each of two groups is not behind by both."""
     return first > 0 or second > 0 or both <= 0
 
 
 def shape_agreed(first, second, both):
-    """Return whether a world that stands so to another one, before it by one group at least, is before it by both."""
+    """Return whether a world that is not behind by each of two groups, and before by one, is before by both."""
     return first > 0 or second > 0 or first + second == 0 or both < 0
 
 

@@ -317,6 +317,30 @@ class LanguageTest(unittest.TestCase):
         for name in generators:
             self.assertEqual(named.count(name), 1)
 
+    def test_comprehensions_in_others_have_names_of_their_own(self):
+        kinds = (ast.ListComp, ast.DictComp, ast.SetComp, ast.GeneratorExp)
+
+        def names_in(comprehension):
+            return {node.id for part in comprehension.generators for node in ast.walk(part.target)
+                    if isinstance(node, ast.Name)}
+
+        def check(node, taken, within):
+            for child in ast.iter_child_nodes(node):
+                mine = names_in(child) if isinstance(child, kinds) else set()
+                if within:
+                    self.assertFalse(mine & taken - {"_"}, ast.unparse(child))
+                check(child, taken | mine, within or isinstance(child, kinds))
+
+        for tree in TREES.values():
+            for function in functions_of(tree):
+                inner = set().union(*[names_in(node) for node in ast.walk(function) if isinstance(node, kinds)])
+                loops = {node.id for loop in ast.walk(function) if isinstance(loop, ast.For)
+                         for node in ast.walk(loop.target) if isinstance(node, ast.Name)}
+                set_names = {node.id for part in ast.walk(function) if isinstance(part, ast.Assign)
+                             for target in part.targets for node in ast.walk(target) if isinstance(node, ast.Name)}
+                passed = {node.arg for node in ast.walk(function.args) if isinstance(node, ast.arg)}
+                check(function, (loops | set_names | passed) & inner, False)
+
     def test_what_signs_and_properties_run_changes_no_product(self):
         reached = run_by_signs()
         self.assertIn("levels_of", [function.name for function in reached])
